@@ -1,0 +1,1 @@
+"""Squareloops: loops over a square table, for all sizes and all entries."""
