@@ -48,6 +48,9 @@ DUNDERS = {f"__{name}__" for name in (
     " rshift radd rsub rmul rfloordiv rmod rand ror rxor rlshift rrshift iadd isub imul ifloordiv imod ipow"
     " iand ior ixor ilshift irshift neg pos invert abs bool contains getitem setitem"
 ).split()}
+ITERATED = ("zip", "enumerate", "reversed", "map", "range")
+VIEWS = ("items", "keys", "values")
+ITERATING = "list tuple dict sorted sum min max any all enumerate zip reversed join".split()
 NEVER = set("register mro elements open input law version_info with_traceback add_note".split())
 NO_NAMES = set((
     "attrgetter breakpoint builtins compile copyright credits delattr dir eval exec exit gc globals help id"
@@ -284,6 +287,8 @@ def call_faults(node, own):
     if isinstance(node.func, ast.Attribute):
         if node.func.attr not in METHODS | own | {"__init__"}:
             yield f"L25 {node.func.attr}"
+        if node.func.attr in VIEWS and not iterated_at_once(node):
+            yield "L23 not iterated at once"
         if node.func.attr in METHODS - own and node.keywords and node.func.attr != "sort":
             yield "L25 a keyword"
         return
@@ -291,7 +296,7 @@ def call_faults(node, own):
     if name in ("any", "all", "sum", "min", "max", "sorted"):
         if any(isinstance(argument, ast.GeneratorExp) for argument in node.args):
             yield "L7 a generator expression instead of a list"
-    if name in ("zip", "enumerate", "reversed", "map") and not iterated_at_once(node):
+    if name in ITERATED and not iterated_at_once(node):
         yield "L23 not iterated at once"
     if name in ("set", "frozenset") and not set_stands_right(node):
         yield "L24 a set where none may stand"
@@ -304,8 +309,14 @@ def iterated_at_once(node):
     if isinstance(above, (ast.For, ast.comprehension)):
         return above.iter is node
     if isinstance(above, ast.Assign):
-        return True
-    return isinstance(above, ast.Call) and node in above.args and isinstance(above.func, (ast.Name, ast.Attribute))
+        return isinstance(above.targets[0], ast.Name)
+    if isinstance(above, ast.Compare) or is_call_of("len", above):
+        return called_name(node) in ("range", "keys", "items")
+    return isinstance(above, ast.Call) and node in above.args and called_name(above) in ITERATING
+
+
+def called_name(node):
+    return node.func.id if isinstance(node.func, ast.Name) else node.func.attr
 
 
 def set_stands_right(node):

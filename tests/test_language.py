@@ -2,6 +2,7 @@ import pathlib
 import unittest
 
 import language
+import operators
 
 ROOT = pathlib.Path(__file__).resolve().parent.parent
 FOLDER = ROOT / language.PACKAGE
@@ -23,7 +24,7 @@ WRONG = {
     "L17": ["def f(type):\n    return 1", "x = 'an enum'", "def f(a):\n    return a.open"],
     "L19": ["def f():\n    raise f()()", "def f():\n    try:\n        f()\n    except Exception:\n        pass"],
     "L20": ["def f(a, b):\n    return a is b"],
-    "L23": ["def f(a):\n    return zip(a, a)"],
+    "L23": ["def f(a):\n    return zip(a, a)", "def f(a):\n    return f(range(a))", "def f(a):\n    return f(a.items())"],
     "L24": ["def f(a):\n    return set(a)", "def f(a):\n    return {1, a}", "x = {1, 2}"],
     "L25": ["def f(a):\n    return a.popitem()", "def f(a):\n    return a.split(sep='x')"],
     "L27": ["x = 'ten %'", "x = '__odd__'"],
@@ -38,6 +39,7 @@ class Language(unittest.TestCase):
             self.assertTrue(path.is_file() and path.suffix == ".py", path)
         sources = {name: path.read_text(encoding="utf-8") for name, path in files.items()}
         self.assertEqual(language.faults(sources), [])
+        self.assertEqual(operators.faults(sources), [])
 
     def test_tests_stand_beside_the_package(self):
         self.assertEqual(sorted(FOLDER.rglob("test*")), [])
@@ -49,6 +51,19 @@ class Language(unittest.TestCase):
                     name = f"{source}.py" if rule == "L1" else "one.py"
                     found = language.faults({"__init__.py": "", name: "" if rule == "L1" else source})
                     self.assertTrue([fault for fault in found if f" {rule} " in fault], found)
+
+    def test_the_checks_find_operators_that_change(self):
+        rows = {
+            "self.n = 1": 1, "self.rows.append(1)": 1, "other.n += 1": 2, "del self.rows[0]": 1, "other()": 1,
+            "self.held()": 0, "self.steps[0]()": 1, "helper(self)": 1, "sizes = [1]\n        sizes.append(2)": 0,
+            "made = A()\n        made.n = 1": 0, "n = 1\n        n += 1": 0, "n = self.n\n        n += other": 1,
+        }
+        for row, many in rows.items():
+            source = f"class A:\n    def __or__(self, other):\n        {row}\n\ndef helper(box):\n    box.n = 2\n"
+            with self.subTest(row):
+                self.assertEqual(len(operators.faults({"one.py": source})), many)
+                source = source.replace("__or__(self, other)", "many(self, other)")
+                self.assertEqual(operators.faults({"one.py": source}), [])
 
     def test_the_checks_find_rings_and_a_missing_file(self):
         ring = {

@@ -18,6 +18,20 @@ class Unfriendly:
     __hash__ = None
 
 
+class Agreeing:
+    """An object that says of every value that it equals it."""
+
+    def __eq__(self, other):
+        return True
+
+    __hash__ = None
+
+
+def nested(depth):
+    """A tuple that is nested so deep."""
+    return (nested(depth - 1),) if depth else ()
+
+
 def no_strings():
     return [
         None, True, False, 0, 1, -1, 10 ** 39, (), ("0 to n",), [], ["0 to n"], {}, {"i": 1},
@@ -31,4 +45,49 @@ def no_nests():
         None, True, False, 0, 4, "", "0 to n", "i from 0 to n\nj from 0 to n", (), [], {},
         (Nest("0 to n", "0 to n"),), [Nest("0 to n", "0 to n")], Nest, Program, Program(),
         Program(Nest("0 to n", "0 to n")), ("0 to n", "0 to n"), Unfriendly(),
+    ]
+
+
+def no_integers():
+    return [
+        None, True, False, "", "1", "n", b"1", (), (1,), [], [1], {}, {1: 1}, {1}, range(1, 2), object(),
+        int, len, nested(10), Program(), Unfriendly(), Agreeing(),
+    ]
+
+
+def no_sizes():
+    return [0, -1, -2, 10 ** 30 + 1, 10 ** 39, -10 ** 30, *no_integers()]
+
+
+def no_cells(size):
+    """Values that are no cell of a table of this size."""
+    last = size - 1
+    return [
+        *no_integers(), 0, 1, size, "00", "0,0", "i,j", [0, 0], [last, last], (0,), (0, 0, 0), (0, (0,)),
+        (size, 0), (0, size), (size, size), (last, size), (size, last), (-1, 0), (0, -1), (-1, -1),
+        (last, -1), (-size, 0), (True, 0), (0, True), (False, 0), (0, False), (False, False),
+        ("0", 0), (0, "0"), (None, 0), (0, None), ((0,), 0), ((0, 0), 0), ((0, 0), (0, 0)), ((0, 0),),
+        ([0], 0), (0, Unfriendly()), (Unfriendly(), 0), (Agreeing(), Agreeing()), {0: 0, 1: 0}, (10 ** 39, 0),
+    ]
+
+
+def no_programs():
+    return [
+        None, True, False, 0, 1, "", "i from 0 to n\nj from 0 to n", (), [], {}, Program,
+        Nest("0 to n", "0 to n"), (Program(),), [Program()], (Nest("0 to n", "0 to n"),), object(),
+        Unfriendly(), Agreeing(),
+    ]
+
+
+def no_tables():
+    """Values that are no table of a size from 1 to 12."""
+    thirteen = ((0,) * 13,) * 13
+    return [
+        *no_integers(), 0, 1, 3, ((),), ((), ()), (((),),), ((1, 2),), ((1,), (2,)), (1, 2), ((1, 2), 3),
+        ((1, 2), (3,)), ((1,), (2, 3)), ((1, 2), (3, 4, 5)), ((1, 2), (3, 4), (5, 6)), ((1, 2, 3), (4, 5, 6)),
+        [(1,)], ([1],), [[1]], ((1, 2), [3, 4]), ([1, 2], (3, 4)), [(1, 2), (3, 4)], ((1, 2), "34"), ("12", "34"),
+        ((True,),), ((False,),), ((1, 2), (3, True)), ((1, False), (3, 4)), ((None,),), (("1",),), ((1, 2), (3, "4")),
+        ((1, 2), (3, None)), (((1,), 2), (3, 4)), ((Unfriendly(),),), ((1, 2), (3, Agreeing())), ((1, 2), Unfriendly()),
+        ((1, 2), {3, 4}), ({1: 1},), thirteen, ((0,) * 12,) * 13, ((0,) * 13,) * 12, ((0,) * 12,) * 11,
+        ((0,) * 12,) * 11 + ((0,) * 11,), ((0,) * 12,) * 11 + ((0,) * 11 + (True,),),
     ]

@@ -1,0 +1,16 @@
+"""Numbers whose bits tell what belongs to something."""
+
+
+def has_bit(bits, index):
+    """Whether the bit with an index is 1."""
+    return bits >> index & 1 == 1
+
+
+def with_bits(indexes):
+    """The number in which just the bits with these indexes are 1, none of them given twice."""
+    return sum([1 << index for index in indexes])
+
+
+def bits_in(bits, count):
+    """The ascending list of the indexes below a count whose bits are 1."""
+    return [index for index in range(count) if bits >> index & 1]

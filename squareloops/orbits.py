@@ -1,0 +1,102 @@
+"""The images of a cell, and the kinds of cells."""
+
+from squareloops.errors import InvalidKind
+from squareloops.given import check_cell, check_size, is_within
+from squareloops.limits import PLACES
+from squareloops.places import cell_at, round_numbers
+
+# What is asked for all sizes is decided by the sizes up to this one.
+LAST_DECIDING = 11
+
+
+def images(size, cell):
+    """The ascending tuple of the different images of a cell."""
+    check_size(size)
+    check_cell(size, cell)
+    row, column = cell
+    numbers = round_numbers(size, row, column)
+    return tuple(sorted({cell_at(place, numbers) for place in PLACES}))
+
+
+def kind_of(size, cell):
+    """The kind of a cell."""
+    check_size(size)
+    check_cell(size, cell)
+    row, column = cell
+    first, second, third, _ = sorted([row, column, size - 1 - row, size - 1 - column])
+    return min(first, 1), min(second - first, 2), min(third - second, 3)
+
+
+def kinds_of(size):
+    """The ascending tuple of the kinds of all cells of a table of this size."""
+    check_size(size)
+    return tuple([kind for kind in all_kinds() if group_count(size, kind) > 0])
+
+
+def cell_count(size, kind):
+    """How many cells of a kind a table of this size has."""
+    check_size(size)
+    if not is_kind(kind):
+        raise InvalidKind(kind)
+    return group_count(size, kind) * image_count(kind)
+
+
+def is_kind(value):
+    """Whether a value is one of the kinds."""
+    return (
+        isinstance(value, tuple)
+        and len(value) == 3
+        and is_within(value[0], 0, 1)
+        and is_within(value[1], 0, 2)
+        and is_within(value[2], 0, 3)
+    )
+
+
+def all_kinds():
+    """The ascending list of all kinds."""
+    return [(a, b, c) for a in range(2) for b in range(3) for c in range(4)]
+
+
+def image_count(kind):
+    """How many different images each cell of a kind has."""
+    _, b, c = kind
+    if b == 0 and c == 0:
+        return 1
+    return 4 if b == 0 or c == 0 else 8
+
+
+def group_count(size, kind):
+    """How many groups of images of this kind a table of this size has."""
+    a, b, c = kind
+    rest = size - least_size(kind)
+    if rest < 0:
+        return 0
+    # The rest is shared out among the differences that stand for greater ones, too.
+    # The first two count twice in the size; the third one takes what they leave.
+    open_parts = [a == 1, b == 2].count(True)
+    if c == 3:
+        return ways(open_parts + 1, rest // 2)
+    return ways(open_parts, rest // 2) if rest % 2 == 0 else 0
+
+
+def ways(parts, total):
+    """In how many ways a total is a sum of none to three numbers from 0 on, in a fixed order."""
+    if parts == 0:
+        return 1 if total == 0 else 0
+    if parts == 1:
+        return 1
+    if parts == 2:
+        return total + 1
+    return (total + 1) * (total + 2) // 2
+
+
+def least_size(kind):
+    """The least size of a table with cells of a kind."""
+    a, b, c = kind
+    return 2 * a + 2 * b + c + 1
+
+
+def least_cell(kind):
+    """A cell of a kind in a table of the least size."""
+    a, b, _ = kind
+    return a, a + b
