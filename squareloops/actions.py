@@ -1,18 +1,17 @@
 """Actions: what becomes of all tables of all sizes."""
 
 from squareloops.bits import bits_in
-from squareloops.checks import deed_parts
-from squareloops.deeds import holds, puts
+from squareloops.deeds import do_deed, read_deed
 from squareloops.errors import Falls, InvalidPower, NotOneToOne, UnknownName
 from squareloops.given import check_cell, check_program, check_size, check_table, is_within
 from squareloops.limits import MOST_POWER
-from squareloops.loops import falling_sizes, image_rounds
-from squareloops.moves import first_truths, in_turn, is_one_to_one, least_states, move_of
+from squareloops.loops import bounds_of, falling_sizes, in_order, rounds_among, spans_at
+from squareloops.moves import TRUTHS, in_turn, is_one_to_one, least_states
 from squareloops.moves import moved, reached, repeated, taken_back
-from squareloops.orbits import LAST_DECIDING, all_kinds, group_count, images, kind_of, kinds_of
-from squareloops.orbits import least_cell, least_size
-from squareloops.places import cell_at, round_numbers
-from squareloops.sizes import Sizes
+from squareloops.orbits import all_kinds, deciding_sizes, first_cells, images_of, kind_at
+from squareloops.orbits import least_cell, least_size, shape_of
+from squareloops.places import PLACE_NUMBERS, round_numbers
+from squareloops.sizes import Sizes, size_bits
 
 # The place from which the entry of the cell (i, j) comes.
 NAMED = {
@@ -34,15 +33,14 @@ class Action:
         """The action of a program."""
         check_program(program)
         falls = falling_sizes(program)
-        return cls(falls, {kind: program_move(program, kind) for kind in kinds_beside(falls)})
+        return cls(falls, program_moves(program, kinds_beside(falls)))
 
     @classmethod
     def named(cls, name):
         """The action with this name."""
         if not is_action_name(name):
             raise UnknownName(name)
-        falls = Sizes()
-        return cls(falls, {kind: named_move(name, kind) for kind in kinds_beside(falls)})
+        return cls(Sizes(), named_moves(PLACE_NUMBERS[NAMED[name]]))
 
     @property
     def falls(self):
@@ -53,21 +51,22 @@ class Action:
         """The result for a table."""
         check_table(table)
         size = len(table)
+        if size in self._falls:
+            raise Falls(size)
         rows = [list(row) for row in table]
-        for cell in [(row, column) for row in range(size) for column in range(size)]:
-            cells, move = self._move_at(size, cell)
-            # Each group of images is moved once, when its least cell comes.
-            if cells[0] == cell:
-                entries = moved(move, [table[row][column] for row, column in cells])
-                for (row, column), entry in zip(cells, entries):
-                    rows[row][column] = entry
+        for row, column in first_cells(size):
+            cells = images_of(size, row, column)
+            move = self._moves[kind_at(size, row, column)]
+            entries = moved(move, [table[i][j] for i, j in cells])
+            for (i, j), entry in zip(cells, entries):
+                rows[i][j] = entry
         return tuple([tuple(row) for row in rows])
 
     def result(self, size, cell):
         """The formula of the entry of its result in a cell."""
         cells, move = self._move_at(size, cell)
-        indexes = [bits_in(state, len(cells)) for state in least_states(move, cells.index(cell))]
-        return tuple(sorted([tuple([cells[index] for index in row]) for row in indexes]))
+        states = least_states(move[cells.index(cell)])
+        return tuple(sorted([tuple([cells[index] for index in bits_in(state)]) for state in states]))
 
     def reaches(self, size, cell):
         """The ascending tuple of the cells in which the result hangs on the entry of a cell."""
@@ -76,23 +75,36 @@ class Action:
 
     def __rshift__(self, other):
         falls = self._falls | other._falls
-        return Action(falls, {
-            kind: in_turn(self._moves[kind], other._moves[kind]) for kind in kinds_beside(falls)
-        })
+        moves = {}
+        both = {}
+        for kind in kinds_beside(falls):
+            first, second = self._moves[kind], other._moves[kind]
+            # Few kinds have moves of their own, so most pairs come several times.
+            pair = first, second
+            if pair not in both:
+                both[pair] = in_turn(first, second)
+            moves[kind] = both[pair]
+        return Action(falls, moves)
 
     def times(self, power):
         """The action done so many times."""
         if not is_within(power, 0, MOST_POWER):
             raise InvalidPower(power)
-        return Action(self._falls, {
-            kind: repeated(move, power) for kind, move in self._moves.items()
-        })
+        done = {}
+        for move in self._moves.values():
+            if move not in done:
+                done[move] = repeated(move, power)
+        return Action(self._falls, {kind: done[move] for kind, move in self._moves.items()})
 
     def inverse(self):
         """The action that takes back what this one does."""
-        for size in sizes_beside(self._falls):
-            if not all([is_one_to_one(self._moves[kind]) for kind in kinds_of(size)]):
-                raise NotOneToOne(size)
+        sizes = 0
+        for kind, move in self._moves.items():
+            if not is_one_to_one(move):
+                sizes = sizes | deciding_sizes(kind)
+        sizes = bits_in(sizes & ~size_bits(self._falls))
+        if sizes:
+            raise NotOneToOne(sizes[0])
         return Action(self._falls, {kind: taken_back(move) for kind, move in self._moves.items()})
 
     def __eq__(self, other):
@@ -108,7 +120,7 @@ class Action:
         check_cell(size, cell)
         if size in self._falls:
             raise Falls(size)
-        return images(size, cell), self._moves[kind_of(size, cell)]
+        return images_of(size, *cell), self._moves[kind_at(size, *cell)]
 
 
 def is_action_name(value):
@@ -116,47 +128,58 @@ def is_action_name(value):
     return isinstance(value, str) and value in NAMED
 
 
-def sizes_beside(falls):
-    """The deciding sizes at which an action does not fall that falls at these sizes."""
-    return [size for size in range(1, LAST_DECIDING + 1) if size not in falls]
-
-
 def kinds_beside(falls):
     """The kinds of cells that stand in tables of other sizes than these."""
-    sizes = sizes_beside(falls)
-    return [kind for kind in all_kinds() if any([group_count(size, kind) > 0 for size in sizes])]
+    sizes = size_bits(falls)
+    return [kind for kind in all_kinds() if deciding_sizes(kind) & ~sizes]
 
 
-def named_move(name, kind):
-    """The move of a named action for a kind of cells."""
-    size = least_size(kind)
-    cells = images(size, least_cell(kind))
-    truths = first_truths(len(cells))
-    origins = [cell_at(NAMED[name], round_numbers(size, row, column)) for row, column in cells]
-    return move_of([truths[cells.index(origin)] for origin in origins])
+def named_moves(numbers):
+    """The moves for all kinds of cells if the entry of each cell (i, j) comes from the place
+    with these indexes of its numbers."""
+    row, column = numbers
+    moves, shapes = {}, {}
+    for kind in all_kinds():
+        shape = shape_of(kind)
+        # Cells with the same images are moved alike.
+        if shape not in shapes:
+            size = least_size(kind)
+            cells = images_of(size, *least_cell(kind))
+            starts = [round_numbers(size, i, j) for i, j in cells]
+            shapes[shape] = tuple([TRUTHS[cells.index((start[row], start[column]))] for start in starts])
+        moves[kind] = shapes[shape]
+    return moves
 
 
-def program_move(program, kind):
-    """The move of a program for a kind of cells."""
-    size, cell = least_size(kind), least_cell(kind)
-    cells = images(size, cell)
-    entries = dict(zip(cells, first_truths(len(cells))))
-    for index, i, j in image_rounds(program, size, cell):
-        numbers = round_numbers(size, i, j)
-        for deed in program.nests[index].deeds:
-            entries.update(truths_put(deed, numbers, entries))
-    return move_of([entries[cell] for cell in cells])
+def program_moves(program, kinds):
+    """The moves of a program for kinds of cells."""
+    nests = [nest for nest in program.nests if nest.deeds]
+    bounds = [bounds_of(nest) for nest in nests]
+    moves, done = {}, {}
+    for kind in kinds:
+        size = least_size(kind)
+        cells = images_of(size, *least_cell(kind))
+        rounds = tuple([rounds_among(spans_at(row, size), cells) for row in bounds])
+        # The deeds of a round do the same to cells of all kinds with the same images.
+        same = shape_of(kind), rounds
+        if same not in done:
+            done[same] = move_of(nests, rounds, size, cells)
+        moves[kind] = done[same]
+    return moves
 
 
-def truths_put(deed, numbers, entries):
-    """What a deed puts where in a round, if the entries are numbers with a bit for each state."""
-    word, places, condition = deed_parts(deed)
-    if not holds(condition, numbers):
-        return {}
-    put = {}
-    for end, starts, greatest in puts(word, [cell_at(place, numbers) for place in places]):
-        truth = entries[starts[0]]
-        for start in starts:
-            truth = truth | entries[start] if greatest else truth & entries[start]
-        put[end] = truth
-    return put
+def move_of(nests, rounds, size, cells):
+    """The move that the rounds of nests, told by indexes of cells, are for these cells."""
+    entries = dict(zip(cells, TRUTHS))
+    for nest, indexes in zip(nests, rounds):
+        deeds = [read_deed(deed) for deed in nest.deeds] if indexes else []
+        for i, j in in_order(nest, [cells[index] for index in indexes]):
+            numbers = round_numbers(size, i, j)
+            for deed in deeds:
+                do_deed(deed, numbers, entries, ordered_truths)
+    return tuple([entries[cell] for cell in cells])
+
+
+def ordered_truths(first, second):
+    """The truth of the lesser and of the greater one of two entries."""
+    return first & second, first | second

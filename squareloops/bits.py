@@ -11,6 +11,12 @@ def with_bits(indexes):
     return sum([1 << index for index in indexes])
 
 
-def bits_in(bits, count):
-    """The ascending list of the indexes below a count whose bits are 1."""
-    return [index for index in range(count) if bits >> index & 1]
+def bits_in(bits):
+    """The ascending list of the indexes of the bits that are 1."""
+    found = []
+    left = bits
+    while left:
+        rest = left & (left - 1)
+        found.append((left ^ rest).bit_length() - 1)
+        left = rest
+    return found

@@ -1,9 +1,35 @@
 """What a deed does in a round: what it puts where."""
 
+from squareloops.checks import NUMBERS, deed_parts
+from squareloops.places import PLACE_NUMBERS
+
+
+def read_deed(deed):
+    """A deed as a tuple of the places whose entries it reads, those to which it puts them one
+    behind the other, whether it orders them ahead of that, and its condition."""
+    word, places, condition = deed_parts(deed)
+    starts = [PLACE_NUMBERS[place] for place in places]
+    ends = starts
+    if word == "copy":
+        starts, ends = starts[:1], starts[1:]
+    elif word != "order":
+        # A swap is a turn of two places.
+        ends = starts[1:] + starts[:1]
+    return starts, ends, word == "order", read_condition(condition)
+
+
+def read_condition(words):
+    """A condition, three words or none, as a tuple of two indexes of numbers of a round and
+    the sign between them; None for none."""
+    if not words:
+        return None
+    left, sign, right = words
+    return NUMBERS.index(left), sign, NUMBERS.index(right)
+
 
 def holds(condition, numbers):
-    """Whether a condition of a deed, three words or none, holds for the numbers of a round."""
-    if not condition:
+    """Whether a condition holds for the numbers of a round."""
+    if condition is None:
         return True
     left, sign, right = condition
     first, second = numbers[left], numbers[right]
@@ -14,14 +40,13 @@ def holds(condition, numbers):
     return (first == second) == (sign == "==")
 
 
-def puts(word, cells):
-    """What a deed puts to its cells, in this order: tuples of the cell to which it is put, the
-    cells whose entries it comes from, and whether it is the greatest one of these entries
-    (otherwise the least one)."""
-    if word == "order":
-        return [(cells[0], cells, False), (cells[1], cells, True)]
-    if word == "copy":
-        return [(cells[1], cells[:1], False)]
-    # A swap is a turn of two places.
-    after = cells[1:] + cells[:1]
-    return [(end, [start], False) for start, end in zip(cells, after)]
+def do_deed(deed, numbers, entries, ordered):
+    """Does a deed to entries by their cells; `ordered` gives the lesser and the greater one of
+    two entries, whatever stands for them."""
+    starts, ends, orders, condition = deed
+    if holds(condition, numbers):
+        read = [entries[numbers[row], numbers[column]] for row, column in starts]
+        if orders:
+            read = ordered(*read)
+        for (row, column), entry in zip(ends, read):
+            entries[numbers[row], numbers[column]] = entry

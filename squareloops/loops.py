@@ -1,77 +1,101 @@
 """The loops of nests: the numbers that they take, the rounds, and where a program falls."""
 
-from squareloops.orbits import images
+from squareloops.orbits import images_of
 from squareloops.sizes import Sizes
 
-
-def outer_values(size):
-    """The values of the bounds that an outer loop can have."""
-    half, more = size // 2, (size + 1) // 2
-    return {
-        "-1": -1, "0": 0, "1": 1,
-        "n-1": size - 1, "n": size, "n+1": size + 1,
-        "n//2-1": half - 1, "n//2": half, "n//2+1": half + 1,
-        "(n+1)//2-1": more - 1, "(n+1)//2": more, "(n+1)//2+1": more + 1,
-    }
-
-
-def inner_values(size, i):
-    """The values of the bounds of an inner loop for this number of the outer one."""
-    values = outer_values(size)
-    return {
-        **values,
-        "i-1": i - 1, "i": i, "i+1": i + 1,
-        "n-i-1": size - i - 1, "n-i": size - i, "n-i+1": size - i + 1,
-    }
+# Each bound as three numbers: the index of its greater part in what parts_at gives, how
+# often i is added, and what is added besides.
+BOUNDS = {
+    "-1": (0, 0, -1), "0": (0, 0, 0), "1": (0, 0, 1),
+    "n-1": (1, 0, -1), "n": (1, 0, 0), "n+1": (1, 0, 1),
+    "n//2-1": (2, 0, -1), "n//2": (2, 0, 0), "n//2+1": (2, 0, 1),
+    "(n+1)//2-1": (3, 0, -1), "(n+1)//2": (3, 0, 0), "(n+1)//2+1": (3, 0, 1),
+    "i-1": (0, 1, -1), "i": (0, 1, 0), "i+1": (0, 1, 1),
+    "n-i-1": (1, -1, -1), "n-i": (1, -1, 0), "n-i+1": (1, -1, 1),
+}
 
 
-def span(loop, values):
-    """The first number of a loop and the one below which it stays, as if it were ascending."""
-    words = loop.split(" ")
-    return values[words[0]], values[words[2]]
+def parts_at(size):
+    """The parts of the bounds that hang on the size alone."""
+    return 0, size, size // 2, (size + 1) // 2
 
 
-def taken(loop, values, numbers):
-    """Those of the ascending numbers that a loop takes, in its order."""
-    first, stop = span(loop, values)
-    found = [number for number in numbers if first <= number < stop]
-    return found[::-1] if loop.endswith(" down") else found
+def bounds_of(nest):
+    """The four bounds of a nest: of the outer loop the first one and the one below which it
+    stays, as if it were ascending, then those of the inner loop."""
+    outer, inner = nest.outer.split(" "), nest.inner.split(" ")
+    return BOUNDS[outer[0]], BOUNDS[outer[2]], BOUNDS[inner[0]], BOUNDS[inner[2]]
+
+
+def spans_at(bounds, size):
+    """The bounds of a nest for a size, as six numbers: i goes from the first one to below the
+    second one, j from the third one and the fourth one times i to below the fifth one and the
+    sixth one times i."""
+    parts = parts_at(size)
+    (start, _, more), (stop, _, above), (low, low_steps, least), (high, high_steps, most) = bounds
+    return (
+        parts[start] + more, parts[stop] + above,
+        parts[low] + least, low_steps, parts[high] + most, high_steps,
+    )
+
+
+def is_down(loop):
+    """Whether a loop takes its numbers in descending order."""
+    return loop.endswith(" down")
+
+
+def rounds_among(spans, cells):
+    """The indexes of the cells, tuples (i, j), that are rounds of a nest with these bounds."""
+    start, stop, low, low_steps, high, high_steps = spans
+    return tuple([
+        index for index, (i, j) in enumerate(cells)
+        if start <= i < stop and low + low_steps * i <= j < high + high_steps * i
+    ])
+
+
+def in_order(nest, rounds):
+    """Ascending rounds (i, j) of a nest, in the order in which they are done."""
+    rows = {}
+    for i, j in rounds:
+        rows.setdefault(i, []).append((i, j))
+    ordered = list(rows.values())
+    if is_down(nest.outer):
+        ordered = ordered[::-1]
+    if is_down(nest.inner):
+        ordered = [row[::-1] for row in ordered]
+    return [pair for row in ordered for pair in row]
 
 
 def image_rounds(program, size, cell):
     """The rounds (nest, i, j) of a program that are images of a cell, in their order."""
-    places = images(size, cell)
-    numbers = sorted({row for row, _ in places})
+    cells = images_of(size, *cell)
     found = []
     for index, nest in enumerate(program.nests):
-        for i in taken(nest.outer, outer_values(size), numbers):
-            for j in taken(nest.inner, inner_values(size, i), numbers):
-                if (i, j) in places:
-                    found.append((index, i, j))
+        rounds = [cells[k] for k in rounds_among(spans_at(bounds_of(nest), size), cells)]
+        found += [(index, i, j) for i, j in in_order(nest, rounds)]
     return found
 
 
-def nest_falls(nest, size):
-    """Whether a round of a nest leaves the table, for sizes that are not great."""
-    first, stop = span(nest.outer, outer_values(size))
-    for i in range(first, stop):
-        low, high = span(nest.inner, inner_values(size, i))
-        inside = 0 <= i < size and 0 <= low and high <= size
-        if low < high and not inside:
+def falls_with(spans, size):
+    """Whether a round of a nest with these bounds leaves the table, for no great size."""
+    start, stop, low, low_steps, high, high_steps = spans
+    for i in range(start, stop):
+        first, end = low + low_steps * i, high + high_steps * i
+        if first < end and not (0 <= i < size and 0 <= first and end <= size):
             return True
     return False
 
 
-def falls_at(program, size):
-    """Whether a program falls at a size that is not great."""
-    return any([nest_falls(nest, size) for nest in program.nests])
-
-
 def falling_sizes(program):
     """The sizes at which a program falls."""
+    nests = [bounds_of(nest) for nest in program.nests]
+    found = [
+        size for size in range(1, 8)
+        if any([falls_with(spans_at(bounds, size), size) for bounds in nests])
+    ]
     # From size 6 on only the parity counts, so the sizes 6 and 7 tell for all others.
     return Sizes(
-        tuple([size for size in range(1, 6) if falls_at(program, size)]),
-        even=6 if falls_at(program, 6) else None,
-        odd=7 if falls_at(program, 7) else None,
+        tuple([size for size in found if size < 6]),
+        even=6 if 6 in found else None,
+        odd=7 if 7 in found else None,
     )

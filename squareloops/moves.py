@@ -1,51 +1,106 @@
 """Moves: what becomes of the entries 0 and 1 of the images of a cell.
 
-A state of m images is a number below 2 to the m; its bit k is the entry of the image with
-the index k. A move is a tuple that has at the index of each state the state behind it. No
-move here takes a 1 away from anywhere if more entries are 1 ahead of it. That is why a move
-also tells what becomes of any integers.
+A state of the images is a number; its bit k is the entry of the image with the index k. A
+truth is a number, too; its bit s is an entry if s was the state at first. A move is a tuple
+of the truths of the images behind it. No move here takes a 1 away from anywhere if more
+entries are 1 at first. That is why a move also tells what becomes of any integers.
 """
 
-from squareloops.bits import bits_in, has_bit, with_bits
+from math import lcm
 
+from squareloops.bits import bits_in
 
-def image_indexes(move):
-    """The indexes of the images that a move is for."""
-    return list(range(len(move).bit_length() - 1))
+# Below this power a move is done without asking for its period.
+MANY_TIMES = 300
+
+# There are truths for the states of eight images; where fewer ones are, the others do not count.
+ALL_STATES = (1 << 256) - 1
+
+# The truth of the entry of each image itself: that with the index k is 1 in the states in
+# which bit k is 1. A move in which all truths are among these only moves entries.
+TRUTHS = (
+    0xaaaaaaaaaaaaaaaaaaaaaaaaaaaaaaaaaaaaaaaaaaaaaaaaaaaaaaaaaaaaaaaa,
+    0xcccccccccccccccccccccccccccccccccccccccccccccccccccccccccccccccc,
+    0xf0f0f0f0f0f0f0f0f0f0f0f0f0f0f0f0f0f0f0f0f0f0f0f0f0f0f0f0f0f0f0f0,
+    0xff00ff00ff00ff00ff00ff00ff00ff00ff00ff00ff00ff00ff00ff00ff00ff00,
+    0xffff0000ffff0000ffff0000ffff0000ffff0000ffff0000ffff0000ffff0000,
+    0xffffffff00000000ffffffff00000000ffffffff00000000ffffffff00000000,
+    0xffffffffffffffff0000000000000000ffffffffffffffff0000000000000000,
+    0xffffffffffffffffffffffffffffffff00000000000000000000000000000000,
+)
 
 
 def staying(move):
     """The move of the same images that changes nothing."""
-    return tuple(range(len(move)))
+    return TRUTHS[:len(move)]
 
 
-def first_truths(count):
-    """For each of so many images the number that has a bit for each state: its entry there."""
-    truths, states = [], 1
-    for _ in range(count):
-        # The states with a 1 at one more image come behind those without it.
-        truths = [truth | (truth << states) for truth in truths] + [((1 << states) - 1) << states]
-        states *= 2
-    return truths
+def origins(move):
+    """The indexes of the images whose entries come to the images; None if it does not only
+    move entries."""
+    found = [TRUTHS.index(truth) for truth in move if truth in TRUTHS]
+    return found if len(found) == len(move) else None
 
 
-def move_of(truths):
-    """The move behind which the images have the entries that these numbers tell for each state."""
-    behind = [0] * (1 << len(truths))
-    for index, truth in enumerate(truths):
-        for state in bits_in(truth, len(behind)):
-            behind[state] += 1 << index
-    return tuple(behind)
+def least_states(truth):
+    """The ascending list of the states in which a truth is 1, but would be 0 with fewer ones."""
+    more = 0
+    for index, own in enumerate(TRUTHS):
+        more = more | (truth & ~own) << (1 << index)
+    return bits_in(truth & ~more)
+
+
+def truth_behind(truth, move):
+    """The truth that comes from a truth if a move is done ahead of it."""
+    if truth in TRUTHS:
+        return move[TRUTHS.index(truth)]
+    found = 0
+    for state in least_states(truth):
+        every = ALL_STATES
+        for index in bits_in(state):
+            every = every & move[index]
+        found = found | every
+    return found
 
 
 def in_turn(first, second):
     """The move that does the first one, then the second one."""
-    return tuple([second[state] for state in first])
+    return tuple([truth_behind(truth, first) for truth in second])
+
+
+def states_behind(move):
+    """The list of the states behind a move, for each state at first."""
+    many = 1 << len(move)
+    # Written as digits, with those of the last image first.
+    rows = [f"{truth:b}".zfill(256)[::-1][:many] for truth in move[::-1]]
+    return [int("".join(digits), 2) for digits in zip(*rows)]
+
+
+def tail_and_period(move):
+    """The least numbers, the tail first, such that the move done tail + period times is the same
+    as done tail times."""
+    # A move of entries is told by the images that they come from, another one by all states.
+    behind = origins(move)
+    if behind is None:
+        behind = states_behind(move)
+    tail, period = 0, 1
+    for start in range(len(behind)):
+        steps, at = {}, start
+        while at not in steps:
+            steps[at] = len(steps)
+            at = behind[at]
+        tail = max(tail, steps[at])
+        period = lcm(period, len(steps) - steps[at])
+    return tail, period
 
 
 def repeated(move, power):
     """The move done so many times."""
-    done, doubled, left = staying(move), move, power
+    left = power
+    if power >= MANY_TIMES:
+        tail, period = tail_and_period(move)
+        left = tail + (power - tail) % period
+    done, doubled = staying(move), move
     while left > 0:
         if left % 2 == 1:
             done = in_turn(done, doubled)
@@ -55,42 +110,37 @@ def repeated(move, power):
 
 
 def is_one_to_one(move):
-    """Whether different states have different states behind them."""
-    return len(set(move)) == len(move)
+    """Whether different entries have different ones behind the move."""
+    # Such a move only moves entries; see [17] of the document.
+    return sorted(move) == sorted(staying(move))
 
 
 def taken_back(move):
     """The move that takes back one that is one-to-one."""
-    ahead = [0] * len(move)
-    for state, behind in enumerate(move):
-        ahead[behind] = state
-    return tuple(ahead)
-
-
-def least_states(move, index):
-    """The states behind which an image has a 1, and has none with fewer entries 1."""
-    found = []
-    for state, behind in enumerate(move):
-        if has_bit(behind, index):
-            fewer = [state - (1 << image) for image in bits_in(state, len(image_indexes(move)))]
-            if not any([has_bit(move[less], index) for less in fewer]):
-                found.append(state)
-    return found
+    return tuple([TRUTHS[move.index(truth)] for truth in staying(move)])
 
 
 def reached(move, index):
     """The indexes of the images that hang on the entry of the image with this index."""
-    changes = [behind ^ move[state ^ (1 << index)] for state, behind in enumerate(move)]
-    return [image for image in image_indexes(move) if any([has_bit(change, image) for change in changes])]
+    return [image for image, truth in enumerate(move) if hangs_on(truth, index)]
+
+
+def hangs_on(truth, index):
+    """Whether a truth is not the same in some two states that differ only at this index."""
+    without = ALL_STATES & ~TRUTHS[index]
+    return (truth >> (1 << index) ^ truth) & without != 0
 
 
 def moved(move, entries):
     """The entries of the images behind a move, for any integers."""
-    behind = list(entries)
+    starts = origins(move)
+    if starts is not None:
+        return [entries[start] for start in starts]
+    state = 0
+    steps = []
     # With 1 written for each entry of at least a bound, an image has a 1 behind the move
-    # exactly if its entry is then at least the bound. So the last bound that does it is the entry.
-    for bound in sorted(entries):
-        state = with_bits([index for index, entry in enumerate(entries) if entry >= bound])
-        for index in bits_in(move[state], len(entries)):
-            behind[index] = bound
-    return behind
+    # exactly if its entry is then at least the bound. So the greatest such bound is the entry.
+    for entry, index in sorted([(entry, index) for index, entry in enumerate(entries)], reverse=True):
+        state += 1 << index
+        steps.append((entry, state))
+    return [max([bound for bound, state in steps if truth >> state & 1]) for truth in move]

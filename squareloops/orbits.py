@@ -1,9 +1,8 @@
 """The images of a cell, and the kinds of cells."""
 
+from squareloops.bits import with_bits
 from squareloops.errors import InvalidKind
 from squareloops.given import check_cell, check_size, is_within
-from squareloops.limits import PLACES
-from squareloops.places import cell_at, round_numbers
 
 # What is asked for all sizes is decided by the sizes up to this one.
 LAST_DECIDING = 11
@@ -13,18 +12,39 @@ def images(size, cell):
     """The ascending tuple of the different images of a cell."""
     check_size(size)
     check_cell(size, cell)
-    row, column = cell
-    numbers = round_numbers(size, row, column)
-    return tuple(sorted({cell_at(place, numbers) for place in PLACES}))
+    return images_of(size, *cell)
+
+
+def images_of(size, row, column):
+    """The ascending tuple of the different images of the cell in a row and a column."""
+    x, y, back_y, back_x = sorted([row, column, size - 1 - row, size - 1 - column])
+    if y == back_y:
+        return ((x, x),) if x == y else ((x, y), (y, x), (y, back_x), (back_x, y))
+    if x == y:
+        return ((x, x), (x, back_x), (back_x, x), (back_x, back_x))
+    return (
+        (x, y), (x, back_y), (y, x), (y, back_x),
+        (back_y, x), (back_y, back_x), (back_x, y), (back_x, back_y),
+    )
 
 
 def kind_of(size, cell):
     """The kind of a cell."""
     check_size(size)
     check_cell(size, cell)
-    row, column = cell
+    return kind_at(size, *cell)
+
+
+def kind_at(size, row, column):
+    """The kind of the cell in a row and a column."""
     first, second, third, _ = sorted([row, column, size - 1 - row, size - 1 - column])
     return min(first, 1), min(second - first, 2), min(third - second, 3)
+
+
+def first_cells(size):
+    """The least image of each cell of a table, each of them once."""
+    half = (size + 1) // 2
+    return [(row, column) for row in range(half) for column in range(row, half)]
 
 
 def kinds_of(size):
@@ -57,12 +77,18 @@ def all_kinds():
     return [(a, b, c) for a in range(2) for b in range(3) for c in range(4)]
 
 
+def shape_of(kind):
+    """A number for how the images of the cells of a kind lie: 0 for eight, 1 for four on the
+    diagonals, 2 for four in the middle of the edges of a square, 3 for one."""
+    _, b, c = kind
+    if c == 0:
+        return 3 if b == 0 else 2
+    return 1 if b == 0 else 0
+
+
 def image_count(kind):
     """How many different images each cell of a kind has."""
-    _, b, c = kind
-    if b == 0 and c == 0:
-        return 1
-    return 4 if b == 0 or c == 0 else 8
+    return (8, 4, 4, 1)[shape_of(kind)]
 
 
 def group_count(size, kind):
@@ -100,3 +126,15 @@ def least_cell(kind):
     """A cell of a kind in a table of the least size."""
     a, b, _ = kind
     return a, a + b
+
+
+def deciding_sizes(kind):
+    """The deciding sizes of tables with cells of a kind, as a number with a bit for each."""
+    a, b, c = kind
+    least = least_size(kind)
+    if c == 3:
+        step = 1
+    else:
+        # What a difference that stands for greater ones takes counts twice in the size.
+        step = 2 if a == 1 or b == 2 else LAST_DECIDING
+    return with_bits(list(range(least, LAST_DECIDING + 1, step)))

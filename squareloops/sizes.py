@@ -41,12 +41,12 @@ class Sizes:
     def listed(self):
         """The ascending tuple of all other sizes of the set."""
         tails = tail_bits(self.even) | tail_bits(self.odd)
-        return tuple(bits_in(self._bits & ~tails, LAST_EVEN + 1))
+        return tuple(bits_in(self._bits & ~tails))
 
     @property
     def least(self):
         """The least size of the set, or None."""
-        return bits_in(self._bits, LAST_EVEN + 1)[0] if self._bits else None
+        return bits_in(self._bits)[0] if self._bits else None
 
     def __eq__(self, other):
         return isinstance(other, Sizes) and self._bits == other._bits
@@ -117,6 +117,11 @@ def set_with(bits):
     made = Sizes()
     made._bits = bits
     return made
+
+
+def size_bits(sizes):
+    """A set of sizes as a number with a bit for each size up to LAST_EVEN."""
+    return sizes._bits
 
 
 def tail_bits(start):
