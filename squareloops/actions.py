@@ -2,7 +2,7 @@
 
 from squareloops.bits import bits_in
 from squareloops.deeds import do_deed, read_deed
-from squareloops.errors import Falls, InvalidPower, NotOneToOne, UnknownName
+from squareloops.errors import Falls, InvalidPower, NotAnAction, NotOneToOne, UnknownName
 from squareloops.given import check_cell, check_program, check_size, check_table, is_within
 from squareloops.limits import MOST_POWER
 from squareloops.loops import bounds_of, falling_sizes, in_order, rounds_among, spans_at
@@ -26,7 +26,7 @@ class Action:
 
     def __init__(self, falls, moves):
         self._falls = falls
-        self._moves = moves
+        self.moves = moves
 
     @classmethod
     def of(cls, program):
@@ -56,7 +56,7 @@ class Action:
         rows = [list(row) for row in table]
         for row, column in first_cells(size):
             cells = images_of(size, row, column)
-            move = self._moves[kind_at(size, row, column)]
+            move = self.moves[kind_at(size, row, column)]
             entries = moved(move, [table[i][j] for i, j in cells])
             for (i, j), entry in zip(cells, entries):
                 rows[i][j] = entry
@@ -78,7 +78,7 @@ class Action:
         moves = {}
         both = {}
         for kind in kinds_beside(falls):
-            first, second = self._moves[kind], other._moves[kind]
+            first, second = self.moves[kind], other.moves[kind]
             # Few kinds have moves of their own, so most pairs come several times.
             pair = first, second
             if pair not in both:
@@ -91,27 +91,27 @@ class Action:
         if not is_within(power, 0, MOST_POWER):
             raise InvalidPower(power)
         done = {}
-        for move in self._moves.values():
+        for move in self.moves.values():
             if move not in done:
                 done[move] = repeated(move, power)
-        return Action(self._falls, {kind: done[move] for kind, move in self._moves.items()})
+        return Action(self._falls, {kind: done[move] for kind, move in self.moves.items()})
 
     def inverse(self):
         """The action that takes back what this one does."""
         sizes = 0
-        for kind, move in self._moves.items():
+        for kind, move in self.moves.items():
             if not is_one_to_one(move):
                 sizes = sizes | deciding_sizes(kind)
         sizes = bits_in(sizes & ~size_bits(self._falls))
         if sizes:
             raise NotOneToOne(sizes[0])
-        return Action(self._falls, {kind: taken_back(move) for kind, move in self._moves.items()})
+        return Action(self._falls, {kind: taken_back(move) for kind, move in self.moves.items()})
 
     def __eq__(self, other):
         return (
             isinstance(other, Action)
             and self._falls == other._falls
-            and self._moves == other._moves
+            and self.moves == other.moves
         )
 
     def _move_at(self, size, cell):
@@ -120,7 +120,13 @@ class Action:
         check_cell(size, cell)
         if size in self._falls:
             raise Falls(size)
-        return images_of(size, *cell), self._moves[kind_at(size, *cell)]
+        return images_of(size, *cell), self.moves[kind_at(size, *cell)]
+
+
+def check_action(action):
+    """Raises the error for what is no action."""
+    if not isinstance(action, Action):
+        raise NotAnAction(action)
 
 
 def is_action_name(value):

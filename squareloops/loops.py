@@ -39,9 +39,9 @@ def spans_at(bounds, size):
     )
 
 
-def is_down(loop):
-    """Whether a loop takes its numbers in descending order."""
-    return loop.endswith(" down")
+def taken(loop, numbers):
+    """Ascending numbers in the order in which a loop takes them."""
+    return numbers[::-1] if loop.endswith(" down") else numbers
 
 
 def rounds_among(spans, cells):
@@ -55,15 +55,10 @@ def rounds_among(spans, cells):
 
 def in_order(nest, rounds):
     """Ascending rounds (i, j) of a nest, in the order in which they are done."""
-    rows = {}
-    for i, j in rounds:
-        rows.setdefault(i, []).append((i, j))
-    ordered = list(rows.values())
-    if is_down(nest.outer):
-        ordered = ordered[::-1]
-    if is_down(nest.inner):
-        ordered = [row[::-1] for row in ordered]
-    return [pair for row in ordered for pair in row]
+    return [
+        (i, j) for i in taken(nest.outer, sorted({number for number, _ in rounds}))
+        for j in taken(nest.inner, [other for number, other in rounds if number == i])
+    ]
 
 
 def image_rounds(program, size, cell):
@@ -76,6 +71,36 @@ def image_rounds(program, size, cell):
     return found
 
 
+def nest_rounds(nest, size):
+    """All rounds (i, j) of a nest for no great size, in their order, also those that leave
+    the table."""
+    start, stop, low, low_steps, high, high_steps = spans_at(bounds_of(nest), size)
+    return [
+        (i, j) for i in taken(nest.outer, list(range(start, stop)))
+        for j in taken(nest.inner, list(range(low + low_steps * i, high + high_steps * i)))
+    ]
+
+
+def all_rounds(program, size):
+    """All rounds (nest, i, j) of a program for no great size, in their order."""
+    return [(index, i, j) for index, nest in enumerate(program.nests) for i, j in nest_rounds(nest, size)]
+
+
+def is_inside(size, i, j):
+    """Whether a round stays in the table."""
+    return 0 <= i < size and 0 <= j < size
+
+
+def narrowed(first, end, least, steps):
+    """The first one of the numbers i from the first one to below the end for which
+    least + steps * i is not below 0, and the one below which they stay."""
+    if steps > 0:
+        return max(first, -(least // steps)), end
+    if steps < 0:
+        return first, min(end, least // -steps + 1)
+    return first, end if least >= 0 else first
+
+
 def falls_with(spans, size):
     """Whether a round of a nest with these bounds leaves the table, for no great size."""
     start, stop, low, low_steps, high, high_steps = spans
@@ -84,6 +109,11 @@ def falls_with(spans, size):
         if first < end and not (0 <= i < size and 0 <= first and end <= size):
             return True
     return False
+
+
+def falls_at(program, size):
+    """Whether a program falls at a size that is not great."""
+    return any([falls_with(spans_at(bounds_of(nest), size), size) for nest in program.nests])
 
 
 def falling_sizes(program):

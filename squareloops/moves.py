@@ -115,6 +115,24 @@ def is_one_to_one(move):
     return sorted(move) == sorted(staying(move))
 
 
+def keeps_entries(move):
+    """Whether the images have the same entries behind the move, in whatever order."""
+    return count_digits(move) == count_digits(staying(move))
+
+
+def count_digits(truths):
+    """For each binary digit of the number of ones a truth, the least digit first."""
+    digits = []
+    for truth in truths:
+        more = truth
+        added = []
+        for digit in digits:
+            added.append(digit ^ more)
+            more = digit & more
+        digits = added + [more]
+    return digits
+
+
 def taken_back(move):
     """The move that takes back one that is one-to-one."""
     return tuple([TRUTHS[move.index(truth)] for truth in staying(move)])

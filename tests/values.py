@@ -1,6 +1,8 @@
 """Values of many kinds, for the places where an error is listed."""
 
+from squareloops.actions import Action
 from squareloops.programs import Nest, Program
+from squareloops.sizes import Sizes
 
 
 class Unfriendly:
@@ -90,4 +92,12 @@ def no_tables():
         ((1, 2), (3, None)), (((1,), 2), (3, 4)), ((Unfriendly(),),), ((1, 2), (3, Agreeing())), ((1, 2), Unfriendly()),
         ((1, 2), {3, 4}), ({1: 1},), thirteen, ((0,) * 12,) * 13, ((0,) * 13,) * 12, ((0,) * 12,) * 11,
         ((0,) * 12,) * 11 + ((0,) * 11,), ((0,) * 12,) * 11 + ((0,) * 11 + (True,),),
+    ]
+
+
+def no_actions():
+    return [
+        None, True, False, 0, 1, "", "right", (), [], {}, Action, Action.named, Program(), Sizes(),
+        Nest("0 to n", "0 to n"), (Action.named("same"),), [Action.named("same")], object(),
+        Unfriendly(), Agreeing(),
     ]

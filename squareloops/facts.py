@@ -1,0 +1,130 @@
+"""What is true of actions, at which sizes."""
+
+from math import lcm
+
+from squareloops.actions import check_action
+from squareloops.bits import bits_in, has_bit
+from squareloops.moves import is_one_to_one, keeps_entries, tail_and_period
+from squareloops.orbits import LAST_DECIDING, deciding_sizes, images_of, kind_at
+from squareloops.sizes import Sizes, size_bits
+
+# A number with a bit for each of the sizes up to LAST_DECIDING.
+DECIDING = 0b111111111110
+
+
+def agree(one, other):
+    """The sizes at which both actions fall, or neither does and they give the same results."""
+    check_action(one)
+    check_action(other)
+    return set_decided_by(agreeing(one, other))
+
+
+def below(one, other):
+    """The sizes at which neither action falls and no entry of the first result is greater."""
+    check_action(one)
+    check_action(other)
+    wrong = sizes_with([
+        kind for kind, first, second in both_moves(one, other)
+        if any([truth & ~more for truth, more in zip(first, second)])
+    ])
+    return set_decided_by(standing(one) & standing(other) & ~wrong)
+
+
+def keeps(action):
+    """The sizes at which an action keeps entries."""
+    check_action(action)
+    wrong = [kind for kind, move in action.moves.items() if not keeps_entries(move)]
+    return set_decided_by(standing(action) & ~sizes_with(wrong))
+
+
+def one_to_one(action):
+    """The sizes at which an action is one-to-one."""
+    check_action(action)
+    wrong = [kind for kind, move in action.moves.items() if not is_one_to_one(move)]
+    return set_decided_by(standing(action) & ~sizes_with(wrong))
+
+
+def parting(one, other):
+    """The least size at which two actions do not agree, with a cell and a table that show it."""
+    check_action(one)
+    check_action(other)
+    sizes = bits_in(DECIDING & ~agreeing(one, other))
+    if not sizes:
+        return None
+    size = sizes[0]
+    if size in one.falls or size in other.falls:
+        return size, None, None
+    row, column, differing = first_difference(one, other, size)
+    fewest = min([(len(bits_in(state)), state) for state in bits_in(differing)])[1]
+    cells = images_of(size, row, column)
+    ones = [cells[index] for index in bits_in(fewest)]
+    return size, (row, column), table_with_ones(size, ones)
+
+
+def period(action):
+    """The least numbers (tail, period) such that the action done tail + period times is the
+    same as done tail times."""
+    check_action(action)
+    known = {}
+    tail, times = 0, 1
+    for move in action.moves.values():
+        # Many kinds have the same move.
+        if move not in known:
+            known[move] = True
+            own_tail, own_times = tail_and_period(move)
+            tail, times = max(tail, own_tail), lcm(times, own_times)
+    return tail, times
+
+
+def agreeing(one, other):
+    """The deciding sizes at which two actions agree, as a number with a bit for each."""
+    wrong = sizes_with([kind for kind, first, second in both_moves(one, other) if first != second])
+    fall_together = DECIDING & ~standing(one) & ~standing(other)
+    return fall_together | standing(one) & standing(other) & ~wrong
+
+
+def standing(action):
+    """The deciding sizes at which an action does not fall."""
+    return DECIDING & ~size_bits(action.falls)
+
+
+def both_moves(one, other):
+    """The kinds for which two actions have moves, with both moves."""
+    return [(kind, move, other.moves[kind]) for kind, move in one.moves.items() if kind in other.moves]
+
+
+def sizes_with(kinds):
+    """The deciding sizes of tables with cells of one of these kinds."""
+    found = 0
+    for kind in kinds:
+        found = found | deciding_sizes(kind)
+    return found
+
+
+def set_decided_by(sizes):
+    """The set of all sizes to which these deciding ones belong."""
+    # Tables of two more rows have cells of the same kinds as those of the last two of these sizes.
+    even, odd = LAST_DECIDING - 1, LAST_DECIDING
+    return Sizes(
+        tuple([size for size in bits_in(sizes) if size < even]),
+        even=even if has_bit(sizes, even) else None,
+        odd=odd if has_bit(sizes, odd) else None,
+    )
+
+
+def first_difference(one, other, size):
+    """The row and the column of the least cell in which the results are not the same, and the
+    number of the states of its images that show it, with a bit for each."""
+    for row in range(size):
+        for column in range(size):
+            kind = kind_at(size, row, column)
+            index = images_of(size, row, column).index((row, column))
+            differing = one.moves[kind][index] ^ other.moves[kind][index]
+            if differing:
+                return row, column, differing
+    return None
+
+
+def table_with_ones(size, cells):
+    """The table with an entry 1 in these cells and 0 in all others."""
+    return tuple([tuple([int((row, column) in cells) for column in range(size)]) for row in range(size)])
