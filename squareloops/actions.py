@@ -1,12 +1,12 @@
 """Actions: what becomes of all tables of all sizes."""
 
 from squareloops.bits import bits_in
-from squareloops.deeds import do_deed, read_deed
+from squareloops.deeds import deeds_of
 from squareloops.errors import Falls, InvalidPower, NotAnAction, NotOneToOne, UnknownName
 from squareloops.given import check_cell, check_program, check_size, check_table, is_within
 from squareloops.limits import MOST_POWER
-from squareloops.loops import bounds_of, falling_sizes, in_order, rounds_among, spans_at
-from squareloops.moves import TRUTHS, in_turn, is_one_to_one, least_states
+from squareloops.loops import bounds_of, falling_sizes, rounds_among, rounds_of, spans_at
+from squareloops.moves import TRUTHS, formula, in_turn, is_one_to_one, move_of
 from squareloops.moves import moved, reached, repeated, taken_back
 from squareloops.orbits import all_kinds, deciding_sizes, first_cells, images_of, kind_at
 from squareloops.orbits import least_cell, least_size, shape_of
@@ -65,8 +65,7 @@ class Action:
     def result(self, size, cell):
         """The formula of the entry of its result in a cell."""
         cells, move = self._move_at(size, cell)
-        states = least_states(move[cells.index(cell)])
-        return tuple(sorted([tuple([cells[index] for index in bits_in(state)]) for state in states]))
+        return formula(move, cells, cell)
 
     def reaches(self, size, cell):
         """The ascending tuple of the cells in which the result hangs on the entry of a cell."""
@@ -159,33 +158,16 @@ def named_moves(numbers):
 
 def program_moves(program, kinds):
     """The moves of a program for kinds of cells."""
-    nests = [nest for nest in program.nests if nest.deeds]
-    bounds = [bounds_of(nest) for nest in nests]
+    deeds = deeds_of(program)
+    bounds = [bounds_of(nest) for nest in program.nests]
     moves, done = {}, {}
     for kind in kinds:
         size = least_size(kind)
         cells = images_of(size, *least_cell(kind))
-        rounds = tuple([rounds_among(spans_at(row, size), cells) for row in bounds])
-        # The deeds of a round do the same to cells of all kinds with the same images.
-        same = shape_of(kind), rounds
+        indexes = tuple([rounds_among(spans_at(row, size), cells) for row in bounds])
+        # The same rounds do the same to cells of all kinds whose images lie alike.
+        same = shape_of(kind), indexes
         if same not in done:
-            done[same] = move_of(nests, rounds, size, cells)
+            done[same] = move_of(rounds_of(program, indexes, cells), deeds, size, cells)
         moves[kind] = done[same]
     return moves
-
-
-def move_of(nests, rounds, size, cells):
-    """The move that the rounds of nests, told by indexes of cells, are for these cells."""
-    entries = dict(zip(cells, TRUTHS))
-    for nest, indexes in zip(nests, rounds):
-        deeds = [read_deed(deed) for deed in nest.deeds] if indexes else []
-        for i, j in in_order(nest, [cells[index] for index in indexes]):
-            numbers = round_numbers(size, i, j)
-            for deed in deeds:
-                do_deed(deed, numbers, entries, ordered_truths)
-    return tuple([entries[cell] for cell in cells])
-
-
-def ordered_truths(first, second):
-    """The truth of the lesser and of the greater one of two entries."""
-    return first & second, first | second

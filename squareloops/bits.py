@@ -11,12 +11,16 @@ def with_bits(indexes):
     return sum([1 << index for index in indexes])
 
 
+def least_bit(bits):
+    """The index of the least bit that is 1, of a number other than 0."""
+    return (bits & -bits).bit_length() - 1
+
+
 def bits_in(bits):
     """The ascending list of the indexes of the bits that are 1."""
     found = []
     left = bits
     while left:
-        rest = left & (left - 1)
-        found.append((left ^ rest).bit_length() - 1)
-        left = rest
+        found.append(least_bit(left))
+        left = left & (left - 1)
     return found

@@ -1,7 +1,7 @@
 """What a deed does in a round: what it puts where."""
 
 from squareloops.checks import NUMBERS, deed_parts
-from squareloops.places import PLACE_NUMBERS
+from squareloops.places import PLACE_NUMBERS, round_numbers
 
 
 def read_deed(deed):
@@ -40,9 +40,23 @@ def holds(condition, numbers):
     return (first == second) == (sign == "==")
 
 
+def deeds_of(program):
+    """For each nest of a program the list of its deeds, as do_deed takes them."""
+    return [[read_deed(deed) for deed in nest.deeds] for nest in program.nests]
+
+
+def do_rounds(rounds, deeds, size, entries, ordered):
+    """Does the deeds of the nests in rounds (nest, i, j), one behind the other, to entries by
+    their cells; `ordered` gives the lesser and the greater one of two entries, whatever
+    stands for them."""
+    for index, i, j in rounds:
+        numbers = round_numbers(size, i, j)
+        for deed in deeds[index]:
+            do_deed(deed, numbers, entries, ordered)
+
+
 def do_deed(deed, numbers, entries, ordered):
-    """Does a deed to entries by their cells; `ordered` gives the lesser and the greater one of
-    two entries, whatever stands for them."""
+    """Does a deed in the round with these numbers."""
     starts, ends, orders, condition = deed
     if holds(condition, numbers):
         read = [entries[numbers[row], numbers[column]] for row, column in starts]

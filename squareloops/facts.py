@@ -3,7 +3,7 @@
 from math import lcm
 
 from squareloops.actions import check_action
-from squareloops.bits import bits_in, has_bit
+from squareloops.bits import bits_in, has_bit, least_bit
 from squareloops.moves import is_one_to_one, keeps_entries, tail_and_period
 from squareloops.orbits import LAST_DECIDING, deciding_sizes, images_of, kind_at
 from squareloops.sizes import Sizes, size_bits
@@ -48,10 +48,10 @@ def parting(one, other):
     """The least size at which two actions do not agree, with a cell and a table that show it."""
     check_action(one)
     check_action(other)
-    sizes = bits_in(DECIDING & ~agreeing(one, other))
+    sizes = parting_sizes(one, other)
     if not sizes:
         return None
-    size = sizes[0]
+    size = least_bit(sizes)
     if size in one.falls or size in other.falls:
         return size, None, None
     row, column, differing = first_difference(one, other, size)
@@ -81,6 +81,11 @@ def agreeing(one, other):
     wrong = sizes_with([kind for kind, first, second in both_moves(one, other) if first != second])
     fall_together = DECIDING & ~standing(one) & ~standing(other)
     return fall_together | standing(one) & standing(other) & ~wrong
+
+
+def parting_sizes(one, other):
+    """The other deciding sizes."""
+    return DECIDING & ~agreeing(one, other)
 
 
 def standing(action):

@@ -1,6 +1,5 @@
 """The loops of nests: the numbers that they take, the rounds, and where a program falls."""
 
-from squareloops.orbits import images_of
 from squareloops.sizes import Sizes
 
 # Each bound as three numbers: the index of its greater part in what parts_at gives, how
@@ -61,14 +60,19 @@ def in_order(nest, rounds):
     ]
 
 
-def image_rounds(program, size, cell):
+def rounds_of(program, indexes, cells):
+    """The rounds (nest, i, j) of a program whose (i, j) are cells, in their order, if for each
+    nest the indexes of these cells are told."""
+    return [
+        (index, i, j) for index, nest in enumerate(program.nests)
+        for i, j in in_order(nest, [cells[at] for at in indexes[index]])
+    ]
+
+
+def image_rounds(program, size, cells):
     """The rounds (nest, i, j) of a program that are images of a cell, in their order."""
-    cells = images_of(size, *cell)
-    found = []
-    for index, nest in enumerate(program.nests):
-        rounds = [cells[k] for k in rounds_among(spans_at(bounds_of(nest), size), cells)]
-        found += [(index, i, j) for i, j in in_order(nest, rounds)]
-    return found
+    indexes = [rounds_among(spans_at(bounds_of(nest), size), cells) for nest in program.nests]
+    return rounds_of(program, indexes, cells)
 
 
 def nest_rounds(nest, size):

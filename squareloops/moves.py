@@ -9,6 +9,7 @@ entries are 1 at first. That is why a move also tells what becomes of any intege
 from math import lcm
 
 from squareloops.bits import bits_in
+from squareloops.deeds import do_rounds
 
 # Below this power a move is done without asking for its period.
 MANY_TIMES = 300
@@ -30,6 +31,18 @@ TRUTHS = (
 )
 
 
+def move_of(rounds, deeds, size, cells):
+    """The move that the deeds of the nests in these rounds are for the images of a cell."""
+    truths = dict(zip(cells, TRUTHS))
+    do_rounds(rounds, deeds, size, truths, ordered_truths)
+    return tuple([truths[cell] for cell in cells])
+
+
+def ordered_truths(first, second):
+    """The truths of the lesser and of the greater one of two entries."""
+    return first & second, first | second
+
+
 def staying(move):
     """The move of the same images that changes nothing."""
     return TRUTHS[:len(move)]
@@ -48,6 +61,12 @@ def least_states(truth):
     for index, own in enumerate(TRUTHS):
         more = more | (truth & ~own) << (1 << index)
     return bits_in(truth & ~more)
+
+
+def formula(move, cells, cell):
+    """The formula of the entry in one of the cells that a move is for."""
+    states = least_states(move[cells.index(cell)])
+    return tuple(sorted([tuple([cells[index] for index in bits_in(state)]) for state in states]))
 
 
 def truth_behind(truth, move):

@@ -1,12 +1,11 @@
 """Programs played on tables, round by round."""
 
-from squareloops.deeds import do_deed, read_deed
+from squareloops.deeds import deeds_of, do_rounds
 from squareloops.errors import Falls, InvalidEntry, InvalidSize, InvalidTable, NothingToUndo
 from squareloops.given import check_cell, check_program, check_table, is_table, is_whole, is_within
 from squareloops.limits import MOST_ROWS
 from squareloops.loops import all_rounds, falls_at, is_inside
 from squareloops.orbits import images_of
-from squareloops.places import round_numbers
 
 
 class Sheet:
@@ -29,7 +28,7 @@ class Sheet:
         if not is_inside(len(table), i, j):
             raise Falls(len(table))
         entries = {(row, column): table[row][column] for row, column in images_of(len(table), i, j)}
-        do_round(self._deeds[index], len(table), (i, j), entries)
+        do_rounds([(index, i, j)], self._deeds, len(table), entries, ordered_entries)
         self._now = Moment(with_entries(table, entries), many + 1, self._now)
         return index, i, j
 
@@ -127,29 +126,14 @@ def run(program, table):
     size = len(table)
     if falls_at(program, size):
         raise Falls(size)
-    deeds = deeds_of(program)
     entries = {(row, column): table[row][column] for row in range(size) for column in range(size)}
-    for index, i, j in all_rounds(program, size):
-        do_round(deeds[index], size, (i, j), entries)
+    do_rounds(all_rounds(program, size), deeds_of(program), size, entries, ordered_entries)
     return with_entries(table, entries)
 
 
 def set_table(sheet, table):
     """Sets the table of a sheet."""
     sheet.table = table
-
-
-def deeds_of(program):
-    """For each nest of a program the list of its deeds, as do_deed takes them."""
-    return [[read_deed(deed) for deed in nest.deeds] for nest in program.nests]
-
-
-def do_round(deeds, size, cell, entries):
-    """Does the deeds of the round (i, j) to the entries by their cells."""
-    i, j = cell
-    numbers = round_numbers(size, i, j)
-    for deed in deeds:
-        do_deed(deed, numbers, entries, ordered_entries)
 
 
 def ordered_entries(first, second):

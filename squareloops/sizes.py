@@ -1,6 +1,6 @@
 """Sets of sizes: some of their own, and all even or odd ones from a size on."""
 
-from squareloops.bits import bits_in, has_bit, with_bits
+from squareloops.bits import bits_in, has_bit, least_bit, with_bits
 from squareloops.errors import InvalidCount, InvalidListed, InvalidTail
 from squareloops.given import is_whole, is_within
 from squareloops.limits import MOST_LISTED
@@ -46,7 +46,7 @@ class Sizes:
     @property
     def least(self):
         """The least size of the set, or None."""
-        return bits_in(self._bits)[0] if self._bits else None
+        return least_bit(self._bits) if self._bits else None
 
     def __eq__(self, other):
         return isinstance(other, Sizes) and self._bits == other._bits

@@ -67,3 +67,28 @@ def table_of(n, ones):
 def same(program):
     """The program with its nests made anew."""
     return Program.read(str(program))
+
+
+# Programs with the same actions as the named ones.
+NAMED = {
+    "same": Program(),
+    "transpose": Program(Nest("0 to n", "0 to i", "swap i,j j,i")),
+    "slant": Program(Nest("0 to n", "0 to n-i-1", "swap i,j ~j,~i")),
+    "upside": Program(Nest("0 to n//2", "0 to n", "swap i,j ~i,j")),
+    "mirror": Program(Nest("0 to n", "0 to n//2", "swap i,j i,~j")),
+    "half": Program(Nest("0 to n//2", "0 to n", "swap i,j ~i,j"), Nest("0 to n", "0 to n//2", "swap i,j i,~j")),
+    "right": WHEEL,
+    "left": WHEEL + WHEEL + WHEEL,
+}
+
+
+def changed(program, changes):
+    """The program with other rows in the places of parts of nests."""
+    nests = [[nest.outer, nest.inner, *nest.deeds] for nest in program.nests]
+    for nest, part, row in changes:
+        nests[nest][{"outer": 0, "inner": 1}.get(part, part if isinstance(part, str) else part + 2)] = row
+    return Program(*[Nest(*rows) for rows in nests])
+
+
+def equal_in_plays(one, other):
+    return all(plays.whole_play(str(one), n) == plays.whole_play(str(other), n) for n in range(1, 12))
