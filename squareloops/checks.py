@@ -1,4 +1,4 @@
-"""Checks of what is passed: loops, deeds, and the rows of texts."""
+"""Checks of what is passed: names, loops, deeds, and the rows of texts."""
 
 from squareloops.limits import MOST_DEEDS, MOST_NESTS, PLACES
 
@@ -16,7 +16,6 @@ PLACE_COUNTS = {"swap": (2, 2), "copy": (2, 2), "order": (2, 2), "turn": (3, 8)}
 
 NUMBERS = ("i", "j", "~i", "~j")
 COMPARISONS = ("<", "<=", "==", "!=")
-
 
 LETTERS = "abcdefghijklmnopqrstuvwxyz"
 DIGITS = "0123456789"

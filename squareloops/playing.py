@@ -52,10 +52,10 @@ class Sheet:
         return self._now.rows
 
     @table.setter
-    def table(self, table):
-        if not is_table(table) or len(table) != len(self):
-            raise InvalidTable(table)
-        self._now = Moment(table, self._now.many, self._now)
+    def table(self, value):
+        if not is_table(value) or len(value) != len(self):
+            raise InvalidTable(value)
+        self._now = Moment(value, self._now.many, self._now)
 
     @property
     def done(self):

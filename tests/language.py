@@ -85,6 +85,7 @@ def file_faults(name, source, trees):
     yield from line_faults(source)
     yield from module_faults(tree)
     yield from import_faults(tree, trees)
+    yield from binding_faults(tree)
     own = own_names(trees)
     for node in ast.walk(tree):
         for text in node_faults(node, own):
@@ -145,6 +146,19 @@ def import_faults(tree, trees):
                 yield node.lineno, "L16 not the file that defines the name"
         elif set(names) - set(LIBRARY.get(node.module, "").split()):
             yield node.lineno, "L2 from outside of the package"
+
+
+def binding_faults(tree):
+    taken = {node.name for node in tree.body if isinstance(node, ast.ClassDef)}
+    for node in tree.body:
+        if isinstance(node, ast.ImportFrom):
+            taken |= {alias.asname or alias.name for alias in node.names}
+    for node in ast.walk(tree):
+        name = node.arg if isinstance(node, ast.arg) else None
+        if isinstance(node, ast.Name) and isinstance(node.ctx, ast.Store):
+            name = node.id
+        if name in taken:
+            yield node.lineno, f"L15 {name} is a class or an import"
 
 
 def imported_file(node):

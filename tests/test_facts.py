@@ -287,6 +287,22 @@ class Period(FactCase):
                 if many % prime == 0:
                     self.assertFalse(action.times(tail + many // prime) == action.times(tail))
 
+    def test_great_powers_are_told_by_it(self):
+        both = [
+            Program(Nest("0 to 1", "1 to n//2", "turn i,j j,i i,~j", "order ~i,~j ~j,~i")),
+            Program(Nest("0 to 1", "1 to n//2", "turn i,j j,i i,~j ~j,i ~i,j", "copy ~j,~i ~i,~j", "copy j,~i ~j,~i")),
+        ]
+        self.assertEqual([period(Action.of(program)) for program in both], [(1, 3), (2, 5)])
+        for program in both + CHOSEN + DRAWN[::3]:
+            action = action_of(str(program))
+            tail, many = period(action)
+            for power in (250, 299, 300, 301, 302, 1000, 10 ** 30 - 1, 10 ** 30):
+                same_power = tail + (power - tail) % many
+                done = action.times(0)
+                for _ in range(same_power if same_power < 20 else 0):
+                    done = done >> action
+                self.assertTrue(action.times(power) == (done if same_power < 20 else action.times(same_power)))
+
     def test_long_periods_and_tails(self):
         eight = "turn i,j j,i i,~j ~j,i ~i,j j,~i ~i,~j ~j,~i"
         told = [

@@ -19,7 +19,7 @@ WRONG = {
     "L10": ["def f():\n" + "    f()\n" * 40, "x = 1\n" * 400, "# " + "x" * 119, "if 1:\n\tx = 1"],
     "L12": ["__x = 1", "def f(_):\n    return _"],
     "L14": ["# \u00e9"],
-    "L15": ["x = 1\nx = 2", "map = 1"],
+    "L15": ["x = 1\nx = 2", "map = 1", "from math import gcd\ndef f(gcd):\n    return 1", "class A:\n    pass\ndef f():\n    A = 1"],
     "L16": ["import math", "from squareloops.gone import name", "from squareloops.one import one"],
     "L17": ["def f(type):\n    return 1", "x = 'an enum'", "def f(a):\n    return a.open"],
     "L19": ["def f():\n    raise f()()", "def f():\n    try:\n        f()\n    except Exception:\n        pass"],

@@ -108,6 +108,16 @@ class RefusedDeeds(unittest.TestCase):
                     else:
                         self.refused(0, wrong)
 
+    def test_fewer_or_more_places(self):
+        for word, least, most in [("swap", 2, 2), ("copy", 2, 2), ("order", 2, 2), ("turn", 3, 8)]:
+            for many in range(9):
+                for condition in ("", " if i < j"):
+                    deed = " ".join([word, *grammar.PLACES[:many]]) + condition
+                    if least <= many <= most:
+                        self.assertEqual(Nest("0 to n", "0 to n", deed).deeds, (deed,))
+                    else:
+                        self.refused(0, deed)
+
     def test_index_of_the_first_wrong_one(self):
         for index in range(6):
             self.refused(index, *[GOOD] * index, "wrong")
