@@ -9,7 +9,7 @@ from squareloops.loops import bounds_of, falling_sizes, rounds_among, rounds_of,
 from squareloops.moves import TRUTHS, formula, in_turn, is_one_to_one, move_of
 from squareloops.moves import moved, reached, repeated, taken_back
 from squareloops.orbits import all_kinds, deciding_sizes, first_cells, images_of, kind_at
-from squareloops.orbits import least_cell, least_size, shape_of
+from squareloops.orbits import least_images, shape_of
 from squareloops.places import PLACE_NUMBERS, round_numbers
 from squareloops.sizes import Sizes, size_bits
 
@@ -148,8 +148,7 @@ def named_moves(numbers):
         shape = shape_of(kind)
         # Cells with the same images are moved alike.
         if shape not in shapes:
-            size = least_size(kind)
-            cells = images_of(size, *least_cell(kind))
+            size, cells = least_images(kind)
             starts = [round_numbers(size, i, j) for i, j in cells]
             shapes[shape] = tuple([TRUTHS[cells.index((start[row], start[column]))] for start in starts])
         moves[kind] = shapes[shape]
@@ -162,8 +161,7 @@ def program_moves(program, kinds):
     bounds = [bounds_of(nest) for nest in program.nests]
     moves, done = {}, {}
     for kind in kinds:
-        size = least_size(kind)
-        cells = images_of(size, *least_cell(kind))
+        size, cells = least_images(kind)
         indexes = tuple([rounds_among(spans_at(row, size), cells) for row in bounds])
         # The same rounds do the same to cells of all kinds whose images lie alike.
         same = shape_of(kind), indexes

@@ -37,9 +37,9 @@ def mends(program, wish, changes):
         raise InvalidChanges(index)
     found = []
     for indexes in all_sets(len(changes)):
-        if not any([is_part(least, indexes) for least in found]):
-            if do_mend(program, wish, [changes[index] for index in indexes]):
-                found.append(indexes)
+        chosen = [changes[at] for at in indexes]
+        if not any([is_part(least, indexes) for least in found]) and do_mend(program, wish, chosen):
+            found.append(indexes)
     return tuple(found)
 
 
@@ -86,12 +86,14 @@ def do_mend(program, wish, changes):
 
 def with_row(nest, part, row):
     """The nest with another row in the place of a loop or a deed."""
+    outer, inner, deeds = nest.outer, nest.inner, nest.deeds
     if part == "outer":
-        return Nest(row, nest.inner, *nest.deeds)
-    if part == "inner":
-        return Nest(nest.outer, row, *nest.deeds)
-    deeds = nest.deeds[:part] + (row,) + nest.deeds[part + 1:]
-    return Nest(nest.outer, nest.inner, *deeds)
+        outer = row
+    elif part == "inner":
+        inner = row
+    else:
+        deeds = deeds[:part] + (row,) + deeds[part + 1:]
+    return Nest(outer, inner, *deeds)
 
 
 def without_deed(program, index, deed):

@@ -140,7 +140,7 @@ def keeps_entries(move):
 
 
 def count_digits(truths):
-    """For each binary digit of the number of ones a truth, the least digit first."""
+    """How many of the truths are 1, as a truth for each binary digit, the least digit first."""
     digits = []
     for truth in truths:
         more = truth
@@ -180,4 +180,4 @@ def moved(move, entries):
     for entry, index in sorted([(entry, index) for index, entry in enumerate(entries)], reverse=True):
         state += 1 << index
         steps.append((entry, state))
-    return [max([bound for bound, state in steps if truth >> state & 1]) for truth in move]
+    return [max([bound for bound, ones in steps if truth >> ones & 1]) for truth in move]

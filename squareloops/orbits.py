@@ -122,10 +122,11 @@ def least_size(kind):
     return 2 * a + 2 * b + c + 1
 
 
-def least_cell(kind):
-    """A cell of a kind in a table of the least size."""
+def least_images(kind):
+    """The least size of a table with cells of a kind, and the images of such a cell."""
     a, b, _ = kind
-    return a, a + b
+    size = least_size(kind)
+    return size, images_of(size, a, a + b)
 
 
 def deciding_sizes(kind):

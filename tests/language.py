@@ -298,6 +298,9 @@ def comparison_faults(node):
 
 
 def call_faults(node, own):
+    for argument in node.args:
+        if isinstance(argument, ast.Starred) and not is_star_right(argument.value, own):
+            yield "L7 a star over what may not stand there"
     if isinstance(node.func, ast.Attribute):
         if node.func.attr not in METHODS | own | {"__init__"}:
             yield f"L25 {node.func.attr}"
@@ -316,6 +319,12 @@ def call_faults(node, own):
         yield "L24 a set where none may stand"
     if name in ("bytes", "print", "chr"):
         yield f"L8 {name}"
+
+
+def is_star_right(value, own):
+    if isinstance(value, ast.Attribute):
+        return isinstance(value.value, ast.Name) and value.attr not in own
+    return isinstance(value, (ast.Name, ast.List, ast.Tuple))
 
 
 def iterated_at_once(node):

@@ -352,6 +352,18 @@ class Wishes(BookCase):
         book.remove("b")
         self.assertEqual((book.names, book.wishes), (("a",), (("does", "a", "right"),)))
 
+    def test_names_that_are_words_of_wishes(self):
+        book = Book()
+        for name in ("keeps", "does", "a"):
+            book[name] = WHEEL
+        for wish in [("keeps", "a"), ("does", "a", "right"), ("stands", "keeps")]:
+            book.wish(wish)
+        self.assertIsNone(book.remove("does"))
+        self.same_answer((InUse, 2), book.remove, "keeps")
+        self.same_answer((InUse, 0), book.remove, "a")
+        book["does"] = Program(ALL_FALLS)
+        self.same_answer((Broken, (2, 1)), put, book, "keeps", Program(ALL_FALLS))
+
     def test_no_index(self):
         book = Book()
         for many in range(3):

@@ -14,7 +14,7 @@ WRONG = {
     "L4": ["@cache\ndef f():\n    return 1", "def f(rows=[]):\n    return rows"],
     "L5": ["class A:\n    def __hash__(self):\n        return 1", "def f():\n    class A:\n        pass"],
     "L6": ["def f():\n    global x\n    x = 1", "async def f():\n    return 1"],
-    "L7": ["x = 1.5", "def f(a):\n    return a / 2", "def f(a):\n    return all(b for b in a)"],
+    "L7": ["x = 1.5", "def f(a):\n    return a / 2", "def f(a):\n    return all(b for b in a)", "def f(a):\n    return f(*f(a))"],
     "L8": ["def f(a):\n    return hash(a)", "def f(a):\n    print(a)", "def f(max):\n    return 1"],
     "L10": ["def f():\n" + "    f()\n" * 40, "x = 1\n" * 400, "# " + "x" * 119, "if 1:\n\tx = 1"],
     "L12": ["__x = 1", "def f(_):\n    return _"],
