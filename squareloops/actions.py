@@ -150,7 +150,8 @@ def named_moves(numbers):
         if shape not in shapes:
             size, cells = least_images(kind)
             starts = [round_numbers(size, i, j) for i, j in cells]
-            shapes[shape] = tuple([TRUTHS[cells.index((start[row], start[column]))] for start in starts])
+            own = dict(zip(cells, TRUTHS))
+            shapes[shape] = tuple([own[start[row], start[column]] for start in starts])
         moves[kind] = shapes[shape]
     return moves
 

@@ -14,7 +14,8 @@ BOUNDS_WITH_I = ("i-1", "i", "i+1", "n-i-1", "n-i", "n-i+1")
 # The least and the greatest number of places behind each word.
 PLACE_COUNTS = {"swap": (2, 2), "copy": (2, 2), "order": (2, 2), "turn": (3, 8)}
 
-NUMBERS = ("i", "j", "~i", "~j")
+# The numbers that a condition compares, with their indexes among those of a round.
+NUMBERS = {"i": 0, "j": 1, "~i": 2, "~j": 3}
 COMPARISONS = ("<", "<=", "==", "!=")
 
 LETTERS = "abcdefghijklmnopqrstuvwxyz"

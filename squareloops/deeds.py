@@ -24,7 +24,7 @@ def read_condition(words):
     if not words:
         return None
     left, sign, right = words
-    return NUMBERS.index(left), sign, NUMBERS.index(right)
+    return NUMBERS[left], sign, NUMBERS[right]
 
 
 def holds(condition, numbers):

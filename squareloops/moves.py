@@ -71,8 +71,6 @@ def formula(move, cells, cell):
 
 def truth_behind(truth, move):
     """The truth that comes from a truth if a move is done ahead of it."""
-    if truth in TRUTHS:
-        return move[TRUTHS.index(truth)]
     found = 0
     for state in least_states(truth):
         every = ALL_STATES
@@ -84,7 +82,9 @@ def truth_behind(truth, move):
 
 def in_turn(first, second):
     """The move that does the first one, then the second one."""
-    return tuple([truth_behind(truth, first) for truth in second])
+    # Entries that the second one only moves are those that the first one put there.
+    put = dict(zip(TRUTHS, first))
+    return tuple([put[truth] if truth in put else truth_behind(truth, first) for truth in second])
 
 
 def states_behind(move):

@@ -1,5 +1,6 @@
-"""Checks what rule L5 says of operators and properties: they change nothing that they did
-not create, and call nothing that they are passed or hold; nor does what they call.
+"""Checks what the rules L5 and L18 say of operators and properties: they change nothing that
+they did not create, call nothing that they are passed or hold, and call no name that is an
+attribute of a class; nor does what they call.
 
 `faults(files)` is as in language.py. It knows functions and methods by their names alone.
 """
@@ -9,7 +10,8 @@ import ast
 from language import DUNDERS
 
 IN_PLACE = {name for name in DUNDERS if name.startswith("__i") and name not in ("__init__", "__invert__", "__iter__")}
-OTHERS = {"__init__", "__enter__", "__exit__", "__call__", "__iter__", "__setitem__"} | IN_PLACE
+CHANGING = {"__setitem__"} | IN_PLACE
+OTHERS = {"__init__", "__enter__", "__exit__", "__call__", "__iter__"} | CHANGING
 CHANGES = set("append clear extend insert pop remove reverse setdefault update sort add discard".split())
 MAKERS = ("list", "dict", "set", "sorted")
 NEW = (ast.List, ast.Dict, ast.Set, ast.ListComp, ast.DictComp, ast.SetComp)
@@ -23,18 +25,27 @@ def faults(files):
         for node in ast.walk(tree):
             if isinstance(node, ast.FunctionDef):
                 functions.setdefault(node.name, []).append((name, node))
-    return [
+    attributes = {
+        node.attr for tree in trees.values() for node in ast.walk(tree)
+        if isinstance(node, ast.Attribute) and isinstance(node.ctx, ast.Store)
+    }
+    found = [
         f"{name}:{line}: L5 {text}"
-        for name, node in reached(functions, classes)
+        for name, node in reached(functions, classes, DUNDERS - OTHERS)
         for line, text in changes(node, classes)
+    ]
+    return found + [
+        f"{name}:{call.lineno}: L18 calls what is the name of an attribute"
+        for name, node in reached(functions, classes, DUNDERS - OTHERS | CHANGING)
+        for call in calls(node) if called(call) in attributes
     ]
 
 
-def reached(functions, classes):
-    """The operators and properties, and all functions that they call."""
+def reached(functions, classes, operators):
+    """These operators and the properties, and all functions that they call."""
     left = [
         place for rows in functions.values() for place in rows
-        if place[1].name in DUNDERS - OTHERS or is_property(place[1])
+        if place[1].name in operators or is_property(place[1])
     ]
     found = []
     while left:

@@ -174,6 +174,24 @@ class InTurn(unittest.TestCase):
         for one, other in zip(DRAWN, DRAWN[1:]):
             self.assertTrue(Action.of(one) >> Action.of(other) == Action.of(one + other))
 
+    def test_moves_of_entries_and_others_as_of_the_programs_joined(self):
+        slant = Program(Nest("0 to n", "0 to n-i-1", "swap i,j ~j,~i"))
+        copies = Program(Nest("0 to n down", "0 to n", "copy i,j ~i,j if i != ~j"))
+        sorts = Program(Nest("0 to n", "0 to n", "order i,j j,i", "order i,j ~i,j", "order i,j i,~j"))
+        both_ways = Program(Nest("0 to n//2", "0 to n", "turn i,j j,i ~i,~j", "order i,~j ~j,i if j <= ~i"))
+        moving, more = [WHEEL, LAZY, slant, copies], [LOW, sorts, both_ways, CHOSEN[13]]
+        draw = random.Random("joined")
+        for one, other in itertools.product(moving + more, repeat=2):
+            both, joined = Action.of(one) >> Action.of(other), one + other
+            self.assertTrue(both == Action.of(joined))
+            for n in range(1, 13):
+                for table in [*plays.tables("joined", n, 2), *tables_at_a_cell(n, draw, 2)]:
+                    self.assertEqual(both(table), plays.play(joined, table))
+                row = draw.randrange(n)
+                cell = row, draw.randrange(n)
+                self.assertEqual(both.result(n, cell), plays.formula(joined, n, cell))
+                self.assertEqual(both.reaches(n, cell), plays.reached(joined, n, cell))
+
     def test_formulas_of_two(self):
         for one, other in [(LOW, WHEEL), (WHEEL, LOW), (LAZY, LOW), (CHOSEN[13], LAZY)]:
             both = Action.of(one) >> Action.of(other)

@@ -65,6 +65,25 @@ class Language(unittest.TestCase):
                 source = source.replace("__or__(self, other)", "many(self, other)")
                 self.assertEqual(operators.faults({"one.py": source}), [])
 
+    def test_the_checks_find_operators_that_call_what_an_attribute_is_named(self):
+        rows = {
+            "self.rows.index(1)": 1, "other.index(1)": 1, "index(1)": 1, "helper([1])": 2, "self.rows[0]": 0,
+            "self.rows.find(1)": 0, "self.rows.index": 0,
+        }
+        for row, many in rows.items():
+            for head, tail in [("__or__(self, other)", ""), ("__setitem__(self, at, worth)", ""), ("many(self)", "@property")]:
+                source = (
+                    f"class A:\n    {tail}\n    def {head}:\n        {row}\n\n"
+                    "class B(ValueError):\n    def __init__(self, index):\n        self.index = index\n\n"
+                    "def helper(rows):\n    further(rows)\n    rows.index(2)\n\n"
+                    "def further(rows):\n    return rows.index(3)\n"
+                )
+                with self.subTest(row=row, head=head):
+                    found = [fault for fault in operators.faults({"one.py": source}) if " L18 " in fault]
+                    self.assertEqual(len(found), many)
+                    source = source.replace(tail, "").replace(head, "plain(self)")
+                    self.assertEqual([fault for fault in operators.faults({"one.py": source}) if " L18 " in fault], [])
+
     def test_the_checks_find_rings_and_a_missing_file(self):
         ring = {
             "__init__.py": "",
