@@ -1,16 +1,15 @@
 """Actions: what becomes of all tables of all sizes."""
 
 from squareloops.bits import bits_in
-from squareloops.deeds import deeds_of
 from squareloops.errors import Falls, InvalidPower, NotAnAction, NotOneToOne, UnknownName
 from squareloops.given import check_cell, check_program, check_size, check_table, is_within
 from squareloops.limits import MOST_POWER
-from squareloops.loops import bounds_of, falling_sizes, rounds_among, rounds_of, spans_at
-from squareloops.moves import TRUTHS, formula, in_turn, is_one_to_one, move_of
+from squareloops.loops import falling_sizes
+from squareloops.moves import Mover, formula, in_turn, is_one_to_one, move_from
 from squareloops.moves import moved, reached, repeated, taken_back
 from squareloops.orbits import all_kinds, deciding_sizes, first_cells, images_of, kind_at
 from squareloops.orbits import least_images, shape_of
-from squareloops.places import PLACE_NUMBERS, round_numbers
+from squareloops.places import PLACE_INDEXES
 from squareloops.sizes import Sizes, size_bits
 
 # The place from which the entry of the cell (i, j) comes.
@@ -40,7 +39,7 @@ class Action:
         """The action with this name."""
         if not is_action_name(name):
             raise UnknownName(name)
-        return cls(Sizes(), named_moves(PLACE_NUMBERS[NAMED[name]]))
+        return cls(Sizes(), named_moves(PLACE_INDEXES[NAMED[name]]))
 
     @property
     def falls(self):
@@ -139,34 +138,18 @@ def kinds_beside(falls):
     return [kind for kind in all_kinds() if deciding_sizes(kind) & ~sizes]
 
 
-def named_moves(numbers):
-    """The moves for all kinds of cells if the entry of each cell (i, j) comes from the place
-    with these indexes of its numbers."""
-    row, column = numbers
-    moves, shapes = {}, {}
-    for kind in all_kinds():
-        shape = shape_of(kind)
-        # Cells with the same images are moved alike.
-        if shape not in shapes:
-            size, cells = least_images(kind)
-            starts = [round_numbers(size, i, j) for i, j in cells]
-            own = dict(zip(cells, TRUTHS))
-            shapes[shape] = tuple([own[start[row], start[column]] for start in starts])
-        moves[kind] = shapes[shape]
-    return moves
+def named_moves(place):
+    """The moves for all kinds of cells if the entry of each cell (i, j) comes from a place, told
+    by its index."""
+    shapes = [move_from(place, shape) for shape in range(4)]
+    return {kind: shapes[shape_of(kind)] for kind in all_kinds()}
 
 
 def program_moves(program, kinds):
     """The moves of a program for kinds of cells."""
-    deeds = deeds_of(program)
-    bounds = [bounds_of(nest) for nest in program.nests]
-    moves, done = {}, {}
+    mover = Mover(program)
+    moves = {}
     for kind in kinds:
         size, cells = least_images(kind)
-        indexes = tuple([rounds_among(spans_at(row, size), cells) for row in bounds])
-        # The same rounds do the same to cells of all kinds whose images lie alike.
-        same = shape_of(kind), indexes
-        if same not in done:
-            done[same] = move_of(rounds_of(program, indexes, cells), deeds, size, cells)
-        moves[kind] = done[same]
+        moves[kind] = mover.move(size, cells)
     return moves

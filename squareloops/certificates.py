@@ -1,21 +1,23 @@
 """Claims about programs, with certificates for the checker."""
 
 from squareloops.actions import Action
-from squareloops.bits import bits_in
+from squareloops.bits import least_bit
+from squareloops.bounds import narrowed
 from squareloops.errors import InvalidSize
-from squareloops.facts import agree, first_difference, table_with_ones
+from squareloops.facts import differing, least_difference, table_with_ones
 from squareloops.given import check_program, check_size, is_within
 from squareloops.limits import MOST_ROWS
-from squareloops.loops import bounds_of, image_rounds, narrowed, spans_at
-from squareloops.orbits import LAST_DECIDING, first_cells, images_of, kind_at
+from squareloops.loops import falls_at, rounds_at, spans_of, written_out
+from squareloops.moves import Mover
+from squareloops.orbits import LAST_DECIDING, first_cells, images_of, kind_at, shape_with
 
 
 def certify_falls(program, size):
     """That a program falls at a size; None if it does not."""
     check_program(program)
     check_size(size)
-    for index, nest in enumerate(program.nests):
-        outside = outside_round(spans_at(bounds_of(nest), size), size)
+    for index, spans in enumerate(spans_of(program, size)):
+        outside = outside_round(spans, size)
         if outside is not None:
             return ("falls", str(program), size), (index, *outside)
     return None
@@ -27,23 +29,20 @@ def certify_parts(one, other, size):
     check_program(other)
     if not is_within(size, 1, MOST_ROWS):
         raise InvalidSize(size)
-    first, second = Action.of(one), Action.of(other)
-    if size in agree(first, second):
+    # Equal programs need not be worked out.
+    table = None if one == other else table_that_shows(one, other, size)
+    if table is None:
         return None
-    ones = []
-    if size not in first.falls and size not in second.falls:
-        row, column, differing = first_difference(first, second, size)
-        cells = images_of(size, row, column)
-        ones = [cells[index] for index in bits_in(bits_in(differing)[0])]
-    return ("parts", str(one), str(other), size), table_with_ones(size, ones)
+    return ("parts", str(one), str(other), size), table
 
 
 def certify_result(program, size, cell):
     """What the formula of the entry of the result in a cell is."""
     # The action checks all that is passed, in the same order.
     formula = Action.of(program).result(size, cell)
-    rounds = tuple(image_rounds(program, size, images_of(size, *cell)))
-    return ("result", str(program), size, cell, formula), rounds
+    cells = images_of(size, *cell)
+    rounds = rounds_at(program, spans_of(program, size), shape_with(cells), cells)
+    return ("result", str(program), size, cell, formula), written_out(rounds, cells)
 
 
 def certify_equal(one, other):
@@ -73,6 +72,21 @@ def outside_round(spans, size):
             j, last = low + low_steps * i, high + high_steps * i - 1
             return (i, j) if j < 0 or not 0 <= i < size else (i, last)
     return None
+
+
+def table_that_shows(one, other, size):
+    """A table for which two programs part, any one if just one of them falls; None if they agree."""
+    falls, other_falls = falls_at(one, size), falls_at(other, size)
+    if falls or other_falls:
+        return table_with_ones(size, (), 0) if falls != other_falls else None
+    first, second = Mover(one), Mover(other)
+    least = least_difference(
+        size, lambda kind, cells: differing(first.move(size, cells), second.move(size, cells))
+    )
+    if least is None:
+        return None
+    cell, states = least
+    return table_with_ones(size, images_of(size, *cell), least_bit(states))
 
 
 def cells_of_all_kinds(falls):

@@ -1,14 +1,14 @@
 """The checker: whether a claim is true, as a certificate shows."""
 
 from squareloops.actions import Action
-from squareloops.deeds import deeds_of
+from squareloops.bounds import spans_at
 from squareloops.errors import InvalidText
 from squareloops.given import is_cell, is_table, is_whole, is_within
 from squareloops.limits import MOST_ROWS, MOST_SIZE
-from squareloops.loops import bounds_of, falling_sizes, falls_at, image_rounds, is_inside, spans_at
+from squareloops.loops import falls_at, is_inside, rounds_at, spans_of, written_out
 from squareloops.moves import formula, move_of
-from squareloops.orbits import LAST_DECIDING, images_of, kind_at
-from squareloops.playing import run
+from squareloops.orbits import LAST_DECIDING, first_cells, images_of, kind_at, shape_with
+from squareloops.playing import entries_in, played
 from squareloops.programs import Program
 
 # How many values stand behind the word of a claim.
@@ -39,7 +39,7 @@ def shows_falls(text, size, certificate):
     index, i, j = certificate
     if not 0 <= index < len(program) or is_inside(size, i, j):
         return False
-    start, stop, low, low_steps, high, high_steps = spans_at(bounds_of(program.nests[index]), size)
+    start, stop, low, low_steps, high, high_steps = spans_at(program.nests[index].bounds, size)
     return start <= i < stop and low + low_steps * i <= j < high + high_steps * i
 
 
@@ -50,9 +50,18 @@ def shows_parts(text, other_text, size, certificate):
         return False
     if not is_within(size, 1, MOST_ROWS) or not is_table(certificate) or len(certificate) != size:
         return False
-    if falls_at(one, size) or falls_at(other, size):
-        return falls_at(one, size) != falls_at(other, size)
-    return run(one, certificate) != run(other, certificate)
+    falls, other_falls = falls_at(one, size), falls_at(other, size)
+    if falls or other_falls:
+        return falls != other_falls
+    spans, other_spans = spans_of(one, size), spans_of(other, size)
+    for row, column in first_cells(size):
+        cells = images_of(size, row, column)
+        entries = entries_in(certificate, cells)
+        # Deeds only move entries among images, so equal ones stay as they are.
+        if entries.count(entries[0]) < len(entries):
+            if played(one, spans, cells, entries) != played(other, other_spans, cells, entries):
+                return True
+    return False
 
 
 def shows_result(text, size, cell, claimed, certificate):
@@ -62,10 +71,14 @@ def shows_result(text, size, cell, claimed, certificate):
         return False
     if not is_formula(size, claimed) or not are_all(is_round, certificate):
         return False
-    cells = images_of(size, *cell)
-    if size in falling_sizes(program) or certificate != tuple(image_rounds(program, size, cells)):
+    if falls_at(program, size):
         return False
-    return claimed == formula(move_of(certificate, deeds_of(program), size, cells), cells, cell)
+    cells = images_of(size, *cell)
+    shape = shape_with(cells)
+    rounds = rounds_at(program, spans_of(program, size), shape, cells)
+    if certificate != written_out(rounds, cells):
+        return False
+    return claimed == formula(move_of(program, rounds, shape), cells, cell)
 
 
 def shows_equal(text, other_text, certificate):

@@ -1,9 +1,10 @@
 """How many rounds a program has, and how many cells an action treats alike."""
 
 from squareloops.actions import check_action
+from squareloops.bounds import narrowed
 from squareloops.errors import Falls
 from squareloops.given import check_program, check_size
-from squareloops.loops import bounds_of, falling_sizes, narrowed, spans_at
+from squareloops.loops import falls_at, spans_of
 from squareloops.moves import TRUTHS, reached
 from squareloops.orbits import group_count
 
@@ -12,9 +13,9 @@ def round_count(program, size):
     """The number of rounds of all nests of a program."""
     check_program(program)
     check_size(size)
-    if size in falling_sizes(program):
+    if falls_at(program, size):
         raise Falls(size)
-    return sum([nest_count(spans_at(bounds_of(nest), size)) for nest in program.nests])
+    return sum([nest_count(spans) for spans in spans_of(program, size)])
 
 
 def nest_count(spans):

@@ -1,38 +1,53 @@
-"""What a deed does in a round: what it puts where."""
+"""Deeds: which strings are deeds, and what these do in a round."""
 
-from squareloops.checks import NUMBERS, deed_parts
-from squareloops.places import PLACE_NUMBERS, round_numbers
+from squareloops.places import IMAGES_AT, PLACE_INDEXES, RANKS_AT
+
+# The least and the greatest number of places behind each word.
+PLACE_COUNTS = {"swap": (2, 2), "copy": (2, 2), "order": (2, 2), "turn": (3, 8)}
+
+# The numbers that a condition compares, with their indexes in the rows of RANKS_AT.
+NUMBERS = {"i": 0, "j": 1, "~i": 2, "~j": 3}
+COMPARISONS = ("<", "<=", "==", "!=")
 
 
-def read_deed(deed):
-    """A deed as a tuple of the places whose entries it reads, those to which it puts them one
-    behind the other, whether it orders them ahead of that, and its condition."""
-    word, places, condition = deed_parts(deed)
-    starts = [PLACE_NUMBERS[place] for place in places]
-    ends = starts
+def read_deed(value):
+    """A deed as a plan: the places whose entries it reads, those to which it puts them one
+    behind the other, whether it orders them ahead of that, and its condition, if any. None for
+    any other value."""
+    words = value.split(" ") if isinstance(value, str) else [""]
+    condition = None
+    if len(words) > 4 and words[-4] == "if":
+        condition = read_condition(words[-3:])
+        if condition is None:
+            return None
+        words = words[:-4]
+    word, *names = words
+    least, most = PLACE_COUNTS.get(word, (1, 0))
+    places = [PLACE_INDEXES[name] for name in names if name in PLACE_INDEXES]
+    if not least <= len(names) <= most or len(set(places)) < len(names):
+        return None
+    starts = ends = places
     if word == "copy":
-        starts, ends = starts[:1], starts[1:]
+        starts, ends = places[:1], places[1:]
     elif word != "order":
         # A swap is a turn of two places.
-        ends = starts[1:] + starts[:1]
-    return starts, ends, word == "order", read_condition(condition)
+        ends = places[1:] + places[:1]
+    return tuple(starts), tuple(ends), word == "order", condition
 
 
 def read_condition(words):
-    """A condition, three words or none, as a tuple of two indexes of numbers of a round and
-    the sign between them; None for none."""
-    if not words:
-        return None
+    """A condition, three words, as two indexes of numbers with the sign between them; None if
+    it is none."""
     left, sign, right = words
+    if left not in NUMBERS or sign not in COMPARISONS or right not in NUMBERS or left == right:
+        return None
     return NUMBERS[left], sign, NUMBERS[right]
 
 
-def holds(condition, numbers):
-    """Whether a condition holds for the numbers of a round."""
-    if condition is None:
-        return True
+def holds(condition, ranks):
+    """Whether a condition holds in a round whose numbers have these ranks."""
     left, sign, right = condition
-    first, second = numbers[left], numbers[right]
+    first, second = ranks[left], ranks[right]
     if sign == "<":
         return first < second
     if sign == "<=":
@@ -40,27 +55,22 @@ def holds(condition, numbers):
     return (first == second) == (sign == "==")
 
 
-def deeds_of(program):
-    """For each nest of a program the list of its deeds, as do_deed takes them."""
-    return [[read_deed(deed) for deed in nest.deeds] for nest in program.nests]
+def do_rounds(nests, rounds, shape, entries, ordered):
+    """Does the deeds of nests, one nest behind the other, in rounds of images that lie in a
+    shape, to the list of the entries of these images. The rounds are told for each nest by the
+    indexes of the images; `ordered` gives the lesser and the greater one of two entries,
+    whatever stands for them."""
+    for nest, indexes in zip(nests, rounds):
+        for index in indexes:
+            do_plans(nest.plans, IMAGES_AT[shape][index], RANKS_AT[shape][index], entries, ordered)
 
 
-def do_rounds(rounds, deeds, size, entries, ordered):
-    """Does the deeds of the nests in rounds (nest, i, j), one behind the other, to entries by
-    their cells; `ordered` gives the lesser and the greater one of two entries, whatever
-    stands for them."""
-    for index, i, j in rounds:
-        numbers = round_numbers(size, i, j)
-        for deed in deeds[index]:
-            do_deed(deed, numbers, entries, ordered)
-
-
-def do_deed(deed, numbers, entries, ordered):
-    """Does a deed in the round with these numbers."""
-    starts, ends, orders, condition = deed
-    if holds(condition, numbers):
-        read = [entries[numbers[row], numbers[column]] for row, column in starts]
-        if orders:
-            read = ordered(*read)
-        for (row, column), entry in zip(ends, read):
-            entries[numbers[row], numbers[column]] = entry
+def do_plans(plans, images, ranks, entries, ordered):
+    """Does deeds in a round in which the places are these images."""
+    for starts, ends, orders, condition in plans:
+        if condition is None or holds(condition, ranks):
+            read = [entries[images[place]] for place in starts]
+            if orders:
+                read = ordered(*read)
+            for place, entry in zip(ends, read):
+                entries[images[place]] = entry

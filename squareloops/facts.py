@@ -5,7 +5,7 @@ from math import lcm
 from squareloops.actions import check_action
 from squareloops.bits import bits_in, has_bit, least_bit
 from squareloops.moves import is_one_to_one, keeps_entries, tail_and_period
-from squareloops.orbits import LAST_DECIDING, deciding_sizes, images_of, kind_at
+from squareloops.orbits import LAST_DECIDING, deciding_sizes, first_cells, images_of, kind_at
 from squareloops.sizes import Sizes, size_bits
 
 # A number with a bit for each of the sizes up to LAST_DECIDING.
@@ -54,11 +54,11 @@ def parting(one, other):
     size = least_bit(sizes)
     if size in one.falls or size in other.falls:
         return size, None, None
-    row, column, differing = first_difference(one, other, size)
-    fewest = min([(len(bits_in(state)), state) for state in bits_in(differing)])[1]
-    cells = images_of(size, row, column)
-    ones = [cells[index] for index in bits_in(fewest)]
-    return size, (row, column), table_with_ones(size, ones)
+    cell, states = least_difference(
+        size, lambda kind, cells: differing(one.moves[kind], other.moves[kind])
+    )
+    fewest = min([(len(bits_in(state)), state) for state in bits_in(states)])[1]
+    return size, cell, table_with_ones(size, images_of(size, *cell), fewest)
 
 
 def period(action):
@@ -117,19 +117,36 @@ def set_decided_by(sizes):
     )
 
 
-def first_difference(one, other, size):
-    """The row and the column of the least cell in which the results are not the same, and the
-    number of the states of its images that show it, with a bit for each."""
-    for row in range(size):
-        for column in range(size):
-            kind = kind_at(size, row, column)
-            index = images_of(size, row, column).index((row, column))
-            differing = one.moves[kind][index] ^ other.moves[kind][index]
-            if differing:
-                return row, column, differing
-    return None
+def least_difference(size, states_of):
+    """The least cell in which two results for tables of a size differ, and the number of the
+    states of its images that show it, with a bit for each; None if there is none. For a kind
+    and the images of a cell `states_of` gives the list of these numbers."""
+    least, known = None, {}
+    for at in first_cells(size):
+        # These cells ascend, and no image of one is less than it.
+        if least is not None and least[0] < at:
+            return least
+        kind = kind_at(size, *at)
+        if kind not in known:
+            found = states_of(kind, images_of(size, *at))
+            known[kind] = [(index, states) for index, states in enumerate(found) if states][:1]
+        for index, states in known[kind]:
+            cell = images_of(size, *at)[index]
+            if least is None or cell < least[0]:
+                least = cell, states
+    return least
 
 
-def table_with_ones(size, cells):
-    """The table with an entry 1 in these cells and 0 in all others."""
-    return tuple([tuple([int((row, column) in cells) for column in range(size)]) for row in range(size)])
+def differing(move, other):
+    """For each image the number of the states in which the entries behind two moves differ."""
+    return [truth ^ more for truth, more in zip(move, other)]
+
+
+def table_with_ones(size, cells, state):
+    """The table with an entry 1 in those of the cells of which the bits of a state are 1, and
+    with 0 in all others."""
+    rows = [[0] * size for _ in range(size)]
+    for index in bits_in(state):
+        row, column = cells[index]
+        rows[row][column] = 1
+    return tuple([tuple(row) for row in rows])

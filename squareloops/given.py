@@ -7,7 +7,7 @@ from squareloops.programs import Program
 
 def is_whole(value):
     """Whether a value is an integer other than True and False."""
-    return isinstance(value, int) and not isinstance(value, bool)
+    return isinstance(value, int) and value is not True and value is not False
 
 
 def is_within(value, least, most):
@@ -26,10 +26,11 @@ def is_cell(size, value):
 
 def is_row(size, value):
     """Whether a value is a row of a table of this size."""
+    # Tables have many entries, so what is_whole asks is written out here.
     return (
         isinstance(value, tuple)
         and len(value) == size
-        and all([is_whole(entry) for entry in value])
+        and all([isinstance(entry, int) and entry is not True and entry is not False for entry in value])
     )
 
 

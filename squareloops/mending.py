@@ -2,7 +2,9 @@
 
 from squareloops.actions import Action, check_action
 from squareloops.bits import with_bits
-from squareloops.checks import first_wrong, is_deed, is_inner_loop, is_outer_loop
+from squareloops.bounds import read_loop, read_outer_loop
+from squareloops.checks import first_wrong
+from squareloops.deeds import read_deed
 from squareloops.errors import InvalidChanges, InvalidPrograms
 from squareloops.facts import parting_sizes
 from squareloops.given import check_program, is_within
@@ -71,8 +73,10 @@ def is_change(program, value):
     if not is_within(nest, 0, len(program) - 1):
         return False
     if isinstance(part, str):
-        return part == "outer" and is_outer_loop(row) or part == "inner" and is_inner_loop(row)
-    return is_within(part, 0, len(program.nests[nest]) - 1) and is_deed(row)
+        if part == "outer":
+            return read_outer_loop(row) is not None
+        return part == "inner" and read_loop(row) is not None
+    return is_within(part, 0, len(program.nests[nest]) - 1) and read_deed(row) is not None
 
 
 def do_mend(program, wish, changes):

@@ -10,6 +10,9 @@ from math import lcm
 
 from squareloops.bits import bits_in
 from squareloops.deeds import do_rounds
+from squareloops.loops import rounds_at, spans_of
+from squareloops.orbits import shape_with
+from squareloops.places import IMAGES_AT, IMAGE_COUNTS
 
 # Below this power a move is done without asking for its period.
 MANY_TIMES = 300
@@ -31,11 +34,38 @@ TRUTHS = (
 )
 
 
-def move_of(rounds, deeds, size, cells):
-    """The move that the deeds of the nests in these rounds are for the images of a cell."""
-    truths = dict(zip(cells, TRUTHS))
-    do_rounds(rounds, deeds, size, truths, ordered_truths)
-    return tuple([truths[cell] for cell in cells])
+class Mover:
+    """Works out the moves of a program for the images of cells, each move once."""
+
+    def __init__(self, program):
+        self._program = program
+        self._spans = {}
+        self._found = {}
+
+    def move(self, size, cells):
+        """The move for the images of a cell of a table of this size."""
+        if size not in self._spans:
+            self._spans[size] = spans_of(self._program, size)
+        shape = shape_with(cells)
+        rounds = rounds_at(self._program, self._spans[size], shape, cells)
+        # The same rounds do the same to all images that lie alike.
+        if (shape, rounds) not in self._found:
+            self._found[shape, rounds] = move_of(self._program, rounds, shape)
+        return self._found[shape, rounds]
+
+
+def move_of(program, rounds, shape):
+    """The move that the deeds of a program in these rounds, told for each nest, are for images
+    that lie in a shape."""
+    truths = list(TRUTHS[:IMAGE_COUNTS[shape]])
+    do_rounds(program.nests, rounds, shape, truths, ordered_truths)
+    return tuple(truths)
+
+
+def move_from(place, shape):
+    """The move after which each image that lies in a shape has the entry of a place, told by
+    its index, in the round of this image."""
+    return tuple([TRUTHS[images[place]] for images in IMAGES_AT[shape]])
 
 
 def ordered_truths(first, second):

@@ -3,6 +3,7 @@
 from squareloops.bits import with_bits
 from squareloops.errors import InvalidKind
 from squareloops.given import check_cell, check_size, is_within
+from squareloops.places import IMAGE_COUNTS
 
 # What is asked for all sizes is decided by the sizes up to this one.
 LAST_DECIDING = 11
@@ -78,17 +79,24 @@ def all_kinds():
 
 
 def shape_of(kind):
-    """A number for how the images of the cells of a kind lie: 0 for eight, 1 for four on the
-    diagonals, 2 for four in the middle of the edges of a square, 3 for one."""
+    """The shape in which the images of the cells of a kind lie, a number as in places.py."""
     _, b, c = kind
     if c == 0:
         return 3 if b == 0 else 2
     return 1 if b == 0 else 0
 
 
+def shape_with(cells):
+    """The shape in which these images of a cell lie."""
+    if len(cells) == 4:
+        row, column = cells[0]
+        return 1 if row == column else 2
+    return 0 if len(cells) == 8 else 3
+
+
 def image_count(kind):
     """How many different images each cell of a kind has."""
-    return (8, 4, 4, 1)[shape_of(kind)]
+    return IMAGE_COUNTS[shape_of(kind)]
 
 
 def group_count(size, kind):

@@ -1,11 +1,11 @@
 """Programs played on tables, round by round."""
 
-from squareloops.deeds import deeds_of, do_rounds
+from squareloops.deeds import do_rounds
 from squareloops.errors import Falls, InvalidEntry, InvalidSize, InvalidTable, NothingToUndo
 from squareloops.given import check_cell, check_program, check_table, is_table, is_whole, is_within
 from squareloops.limits import MOST_ROWS
-from squareloops.loops import all_rounds, falls_at, is_inside
-from squareloops.orbits import images_of
+from squareloops.loops import all_rounds, falls_at, is_inside, rounds_at, spans_of
+from squareloops.orbits import first_cells, images_of, shape_with
 
 
 class Sheet:
@@ -16,7 +16,7 @@ class Sheet:
         check_program(program)
         check_table(table)
         self._steps = tuple(all_rounds(program, len(table)))
-        self._deeds = deeds_of(program)
+        self._nests = program.nests
         self._now = Moment(table, 0, None)
 
     def step(self):
@@ -27,9 +27,10 @@ class Sheet:
         index, i, j = self._steps[many]
         if not is_inside(len(table), i, j):
             raise Falls(len(table))
-        entries = {(row, column): table[row][column] for row, column in images_of(len(table), i, j)}
-        do_rounds([(index, i, j)], self._deeds, len(table), entries, ordered_entries)
-        self._now = Moment(with_entries(table, entries), many + 1, self._now)
+        cells = images_of(len(table), i, j)
+        entries = entries_in(table, cells)
+        do_rounds([self._nests[index]], [[cells.index((i, j))]], shape_with(cells), entries, ordered_entries)
+        self._now = Moment(with_entries(table, dict(zip(cells, entries))), many + 1, self._now)
         return index, i, j
 
     def __getitem__(self, at):
@@ -126,9 +127,25 @@ def run(program, table):
     size = len(table)
     if falls_at(program, size):
         raise Falls(size)
-    entries = {(row, column): table[row][column] for row in range(size) for column in range(size)}
-    do_rounds(all_rounds(program, size), deeds_of(program), size, entries, ordered_entries)
-    return with_entries(table, entries)
+    spans = spans_of(program, size)
+    behind = {}
+    for row, column in first_cells(size):
+        cells = images_of(size, row, column)
+        behind.update(dict(zip(cells, played(program, spans, cells, entries_in(table, cells)))))
+    return with_entries(table, behind)
+
+
+def played(program, spans, cells, entries):
+    """The entries of the images of a cell behind all rounds of a program with these bounds."""
+    shape = shape_with(cells)
+    behind = list(entries)
+    do_rounds(program.nests, rounds_at(program, spans, shape, cells), shape, behind, ordered_entries)
+    return behind
+
+
+def entries_in(table, cells):
+    """The list of the entries in these cells of a table."""
+    return [table[row][column] for row, column in cells]
 
 
 def set_table(sheet, table):

@@ -1,26 +1,38 @@
 """Nests of loops, and programs of nests."""
 
-from squareloops.checks import INNER_START, OUTER_START
-from squareloops.checks import behind, first_wrong, is_inner_loop, is_outer_loop
-from squareloops.checks import is_program_text, rows_by_nest, wrong_deed
+from squareloops.bounds import read_loop, read_outer_loop
+from squareloops.checks import first_wrong
+from squareloops.deeds import read_deed
 from squareloops.errors import InvalidDeeds, InvalidLoop, InvalidNests, InvalidText
-from squareloops.limits import MOST_NESTS
+from squareloops.limits import MOST_DEEDS, MOST_NESTS
+from squareloops.places import ORDERS
+
+OUTER_START = "i from "
+INNER_START = "j from "
 
 
 class Nest:
-    """An outer loop, an inner loop, and the deeds of each round."""
+    """An outer loop, an inner loop, and the deeds of each round. It also keeps what was read
+    in them: the four bounds, the orders of rounds by shapes, and the plans of the deeds."""
 
     def __init__(self, outer, inner, *deeds):
-        if not is_outer_loop(outer):
+        outer_loop, inner_loop = read_outer_loop(outer), read_loop(inner)
+        if outer_loop is None:
             raise InvalidLoop(outer)
-        if not is_inner_loop(inner):
+        if inner_loop is None:
             raise InvalidLoop(inner)
-        index = wrong_deed(deeds)
+        plans = [read_deed(deed) for deed in deeds]
+        index = first_wrong([plan is not None for plan in plans], MOST_DEEDS)
         if index is not None:
             raise InvalidDeeds(index)
         self._outer = outer
         self._inner = inner
         self._deeds = deeds
+        start, stop, outer_descends = outer_loop
+        low, high, inner_descends = inner_loop
+        self.bounds = start, stop, low, high
+        self.orders = ORDERS[outer_descends, inner_descends]
+        self.plans = tuple(plans)
 
     @property
     def outer(self):
@@ -64,10 +76,13 @@ class Program:
     @classmethod
     def read(cls, text):
         """The program with this text."""
-        if not is_program_text(text):
+        if not isinstance(text, str):
             raise InvalidText(text)
-        nests = [nest_of_rows(rows) for rows in rows_by_nest(text)]
-        return cls(*nests)
+        try:
+            nests = [nest_of_rows(rows) for rows in rows_by_nest(text)]
+            return cls(*nests)
+        except (InvalidLoop, InvalidDeeds, InvalidNests):
+            raise InvalidText(text) from None
 
     @property
     def nests(self):
@@ -101,7 +116,25 @@ def nest_text(nest):
     return "\n".join([f"{OUTER_START}{nest.outer}", f"{INNER_START}{nest.inner}", *deeds])
 
 
+def rows_by_nest(text):
+    """The rows of a text, cut ahead of each row of an outer loop."""
+    if text == "":
+        return []
+    parts = []
+    for row in text.split("\n"):
+        if not parts or row.startswith(OUTER_START):
+            parts.append([])
+        parts[-1].append(row)
+    return parts
+
+
 def nest_of_rows(rows):
     """The nest whose text has these rows."""
-    outer, inner, *deeds = rows
+    # The empty string in the place of a missing row is no loop.
+    outer, inner, *deeds = rows if len(rows) > 1 else (*rows, "")
     return Nest(behind(OUTER_START, outer), behind(INNER_START, inner), *deeds)
+
+
+def behind(start, row):
+    """What stands behind the start of a row; None if the row does not begin so."""
+    return row.removeprefix(start) if row.startswith(start) else None
