@@ -7,7 +7,7 @@ from squareloops.limits import MOST_POWER
 from squareloops.loops import falling_sizes
 from squareloops.moves import Mover, formula, in_turn, is_one_to_one, move_from
 from squareloops.moves import moved, reached, repeated, taken_back
-from squareloops.orbits import all_kinds, deciding_sizes, first_cells, images_of, kind_at
+from squareloops.orbits import DECIDING_SIZES, first_cells, images_of, kind_at
 from squareloops.orbits import least_images, shape_of
 from squareloops.places import PLACE_INDEXES
 from squareloops.sizes import Sizes, size_bits
@@ -99,7 +99,7 @@ class Action:
         sizes = 0
         for kind, move in self.moves.items():
             if not is_one_to_one(move):
-                sizes = sizes | deciding_sizes(kind)
+                sizes = sizes | DECIDING_SIZES[kind]
         sizes = bits_in(sizes & ~size_bits(self._falls))
         if sizes:
             raise NotOneToOne(sizes[0])
@@ -135,14 +135,14 @@ def is_action_name(value):
 def kinds_beside(falls):
     """The kinds of cells that stand in tables of other sizes than these."""
     sizes = size_bits(falls)
-    return [kind for kind in all_kinds() if deciding_sizes(kind) & ~sizes]
+    return [kind for kind, own in DECIDING_SIZES.items() if own & ~sizes]
 
 
 def named_moves(place):
     """The moves for all kinds of cells if the entry of each cell (i, j) comes from a place, told
     by its index."""
     shapes = [move_from(place, shape) for shape in range(4)]
-    return {kind: shapes[shape_of(kind)] for kind in all_kinds()}
+    return {kind: shapes[shape_of(kind)] for kind in DECIDING_SIZES}
 
 
 def program_moves(program, kinds):

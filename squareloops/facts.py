@@ -5,7 +5,7 @@ from math import lcm
 from squareloops.actions import check_action
 from squareloops.bits import bits_in, has_bit, least_bit
 from squareloops.moves import is_one_to_one, keeps_entries, tail_and_period
-from squareloops.orbits import LAST_DECIDING, deciding_sizes, first_cells, images_of, kind_at
+from squareloops.orbits import DECIDING_SIZES, LAST_DECIDING, first_cells, images_of, kind_at
 from squareloops.sizes import Sizes, size_bits
 
 # A number with a bit for each of the sizes up to LAST_DECIDING.
@@ -102,7 +102,7 @@ def sizes_with(kinds):
     """The deciding sizes of tables with cells of one of these kinds."""
     found = 0
     for kind in kinds:
-        found = found | deciding_sizes(kind)
+        found = found | DECIDING_SIZES[kind]
     return found
 
 

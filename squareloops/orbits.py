@@ -1,12 +1,22 @@
 """The images of a cell, and the kinds of cells."""
 
-from squareloops.bits import with_bits
 from squareloops.errors import InvalidKind
 from squareloops.given import check_cell, check_size, is_within
 from squareloops.places import IMAGE_COUNTS
 
 # What is asked for all sizes is decided by the sizes up to this one.
 LAST_DECIDING = 11
+
+# All kinds, ascending, each with a number that has a bit for each size up to LAST_DECIDING of
+# tables with such cells.
+DECIDING_SIZES = {
+    (0, 0, 0): 0b000000000010, (0, 0, 1): 0b000000000100, (0, 0, 2): 0b000000001000, (0, 0, 3): 0b111111110000,
+    (0, 1, 0): 0b000000001000, (0, 1, 1): 0b000000010000, (0, 1, 2): 0b000000100000, (0, 1, 3): 0b111111000000,
+    (0, 2, 0): 0b101010100000, (0, 2, 1): 0b010101000000, (0, 2, 2): 0b101010000000, (0, 2, 3): 0b111100000000,
+    (1, 0, 0): 0b101010101000, (1, 0, 1): 0b010101010000, (1, 0, 2): 0b101010100000, (1, 0, 3): 0b111111000000,
+    (1, 1, 0): 0b101010100000, (1, 1, 1): 0b010101000000, (1, 1, 2): 0b101010000000, (1, 1, 3): 0b111100000000,
+    (1, 2, 0): 0b101010000000, (1, 2, 1): 0b010100000000, (1, 2, 2): 0b101000000000, (1, 2, 3): 0b110000000000,
+}
 
 
 def images(size, cell):
@@ -51,7 +61,7 @@ def first_cells(size):
 def kinds_of(size):
     """The ascending tuple of the kinds of all cells of a table of this size."""
     check_size(size)
-    return tuple([kind for kind in all_kinds() if group_count(size, kind) > 0])
+    return tuple([kind for kind in DECIDING_SIZES if group_count(size, kind) > 0])
 
 
 def cell_count(size, kind):
@@ -71,11 +81,6 @@ def is_kind(value):
         and is_within(value[1], 0, 2)
         and is_within(value[2], 0, 3)
     )
-
-
-def all_kinds():
-    """The ascending list of all kinds."""
-    return [(a, b, c) for a in range(2) for b in range(3) for c in range(4)]
 
 
 def shape_of(kind):
@@ -135,15 +140,3 @@ def least_images(kind):
     a, b, _ = kind
     size = least_size(kind)
     return size, images_of(size, a, a + b)
-
-
-def deciding_sizes(kind):
-    """The deciding sizes of tables with cells of a kind, as a number with a bit for each."""
-    a, b, c = kind
-    least = least_size(kind)
-    if c == 3:
-        step = 1
-    else:
-        # What a difference that stands for greater ones takes counts twice in the size.
-        step = 2 if a == 1 or b == 2 else LAST_DECIDING
-    return with_bits(list(range(least, LAST_DECIDING + 1, step)))

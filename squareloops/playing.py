@@ -131,7 +131,8 @@ def run(program, table):
     behind = {}
     for row, column in first_cells(size):
         cells = images_of(size, row, column)
-        behind.update(dict(zip(cells, played(program, spans, cells, entries_in(table, cells)))))
+        for cell, entry in zip(cells, played(program, spans, cells, entries_in(table, cells))):
+            behind[cell] = entry
     return with_entries(table, behind)
 
 

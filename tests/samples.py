@@ -61,7 +61,12 @@ def bits_of(entries):
 
 
 def table_of(n, ones):
-    return tuple(tuple(int((r, c) in ones) for c in range(n)) for r in range(n))
+    return rows_of(n, {cell: int(cell in ones) for cell in cells_at(n)})
+
+
+def rows_of(n, entries):
+    """The table with these entries in its cells."""
+    return tuple(tuple(entries[r, c] for c in range(n)) for r in range(n))
 
 
 def same(program):

@@ -5,13 +5,21 @@ import cases
 import claims
 import plays
 from samples import ALL_FALLS, CHOSEN, EVEN_FALLS, FAR, GREAT, LAZY, LOW, NAMED, ODD_FALLS, ONE_FALLS, WHEEL
-from samples import cells_at, equal_in_plays, falls, same
+from samples import cells_at, equal_in_plays, falls, same, table_of
 from squareloops.certificates import certify_equal, certify_falls, certify_parts, certify_result
 from squareloops.checker import accepts
 from squareloops.errors import Falls, InvalidCell, InvalidSize, NotAProgram
 from squareloops.programs import Nest, Program
 from values import no_cells, no_integers, no_programs, no_sizes
 
+LONG = Program(
+    Nest("0 to n", "0 to n", "turn i,j j,~i ~i,~j ~j,i i,~j j,i", "order i,j j,i if i < j", "copy i,j j,i"),
+    Nest("0 to n//2", "0 to n", "swap i,j ~i,j", "order i,j j,i"),
+    Nest("0 to n", "i+1 to n", "order i,j j,i", "order i,~j j,i if i <= ~j"),
+)
+# Two programs that part, and one that does the same as LONG.
+COPIES, SORTS = [Program(Nest("0 to n", "i to n", "order i,j j,i", deed)) for deed in ("copy i,j j,i", "order j,i i,j")]
+LONGER = LONG + Program(Nest("0 to n", "0 to n", "swap i,j ~i,j", "swap ~i,j i,j"))
 DRAWN = plays.programs("certificates", 40, nests=3, inside=True) + plays.programs("certificates any", 30)
 
 
@@ -98,6 +106,32 @@ class CertifyParts(CertificateCase):
             for n in range(1, 13):
                 self.check(one, other, n)
                 self.check(other, one, n)
+
+    def test_long_programs(self):
+        for one, other, parting in [(LONG, WHEEL, 11), (COPIES, SORTS, 11), (COPIES, LONG, 11), (SORTS, Program(), 11),
+                                    (LONG, LONG, 0), (LONG, same(LONG), 0), (LONG, LONGER, 0), (LONGER, LONG, 0)]:
+            self.assertEqual([self.check(one, other, n) for n in range(1, 13)].count(True), parting)
+
+    def test_the_table_has_ones_among_the_images_of_the_least_cell(self):
+        for one, other in [(LONG, WHEEL), (COPIES, SORTS), (LOW, LAZY), (WHEEL, LAZY), (CHOSEN[10], WHEEL), (LONGER, COPIES), *zip(DRAWN, DRAWN[1:20])]:
+            for n in range(1, 13):
+                pair = certify_parts(one, other, n)
+                if pair is None or plays.falls(one, n) or plays.falls(other, n):
+                    self.assertTrue(pair is None or pair[1] == ((0,) * n,) * n)
+                    continue
+                first, second = plays.whole_play(str(one), n), plays.whole_play(str(other), n)
+                cell = min(cell for cell in first if first[cell] != second[cell])
+                self.assertEqual(pair[1], self.least_table(one, other, n, cell))
+
+    def least_table(self, one, other, n, cell):
+        """The first table for which results differ in a cell, its images taken in like binary digits."""
+        cells = plays.images(n, cell)
+        for state in range(1 << len(cells)):
+            table = table_of(n, [at for k, at in enumerate(cells) if state >> k & 1])
+            first, second = plays.play(one, table), plays.play(other, table)
+            if first[cell[0]][cell[1]] != second[cell[0]][cell[1]]:
+                return table
+        return None
 
     def test_errors_in_their_order(self):
         for value in no_programs():

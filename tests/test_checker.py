@@ -4,7 +4,7 @@ import unittest
 import claims
 import plays
 from samples import ALL_FALLS, CHOSEN, EVEN_FALLS, FAR, LAZY, LOW, NAMED, ODD_FALLS, ONE_FALLS, WHEEL
-from samples import cells_at, falls, table_of
+from samples import cells_at, falls, rows_of, table_of
 from squareloops.checker import accepts
 from squareloops.programs import Nest, Program
 from values import Agreeing, Unfriendly, nested, no_cells, no_integers, no_sizes, no_strings, no_tables
@@ -95,6 +95,18 @@ class Parts(CheckerCase):
                     self.as_told(claim, table)
                     found.add(accepts(claim, table))
         self.assertEqual(found, {True, False})
+
+    def test_entries_that_are_equal_among_images(self):
+        draw = random.Random("equal among images")
+        for one, other in self.pairs()[:40]:
+            for n in (3, 4, 7, 12):
+                even = {cell: draw.choice([-7, 0, 3, 3, 10 ** 30]) for cell in cells_at(n)}
+                even = {cell: even[plays.images(n, cell)[0]] for cell in even}
+                claim = ("parts", str(one), str(other), n)
+                table = rows_of(n, even)
+                self.assertIs(accepts(claim, table), plays.falls(one, n) != plays.falls(other, n))
+                for cell in draw.sample(cells_at(n), 3):
+                    self.as_told(claim, rows_of(n, {**even, cell: 4}))
 
     def test_bent(self):
         for k, (one, other) in enumerate(self.pairs()):
